@@ -135,8 +135,7 @@ func TestEveryCutIsRefused(t *testing.T) {
 		for _, thing := range k.fitThings(17, 40) {
 			b := k.lay(thing)
 			k.reads(t, "P4.16", b, thing)
-			step := 1 + len(b)/300
-			for n := 0; n < len(b); n += step {
+			for n := range b {
 				if got, e := k.get(b[:n]); e == api.OK || e != verdict(k.form, b[:n]) || !same(got, k.zero) {
 					t.Errorf("P4.17: Get%s of the first %d bytes of %s answers %s, error %d, want error %d", k.name, n, short(b), shown(got), e, verdict(k.form, b[:n]))
 				}
