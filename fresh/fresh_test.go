@@ -1,0 +1,85 @@
+package fresh_test
+
+import (
+	"reflect"
+	"testing"
+	"unsafe"
+
+	"eddy/api"
+	"eddy/fresh"
+)
+
+// lent gives a text in bytes of its own, which can be written over afterwards.
+func lent(s string) string {
+	b := []byte(s)
+	return unsafe.String(unsafe.SliceData(b), len(b))
+}
+
+func spoilText(s string) {
+	for k := range len(s) {
+		unsafe.Slice(unsafe.StringData(s), len(s))[k] = '#'
+	}
+}
+
+// sample gives a record, not a valid one, in which all fields are filled and every list has spare room.
+func sample() api.Record {
+	inner := append(make([]api.Value, 0, 4), api.Value{Kind: api.Text, Text: lent("inner")}, api.Value{Kind: 9, Int: 7})
+	outer := append(make([]api.Value, 0, 4), api.Value{Kind: api.List, Int: 3, Text: lent("list"), Items: inner}, api.Value{Kind: -1, Items: append(make([]api.Value, 0, 2), api.Value{})})
+	return api.Record{Key: lent("a key that is too long"), Val: api.Value{Kind: api.List, Items: outer}, Loops: append(make([]int, 0, 5), -1, 99)}
+}
+
+// spoil writes over all that hangs on a sample, its spare room too.
+func spoil(r api.Record) {
+	inner := r.Val.Items[0].Items
+	spoilText(r.Key)
+	spoilText(r.Val.Items[0].Text)
+	spoilText(inner[0].Text)
+	loops := r.Loops[:cap(r.Loops)]
+	for k := range loops {
+		loops[k] = 4711
+	}
+	for _, l := range [][]api.Value{inner, r.Val.Items[1].Items, r.Val.Items} {
+		l = l[:cap(l)]
+		for k := range l {
+			l[k] = api.Value{Kind: 4711}
+		}
+	}
+}
+
+func TestACopyIsTheSameFieldByField(t *testing.T) {
+	r := sample()
+	if got := fresh.Record(r); !reflect.DeepEqual(got, r) {
+		t.Errorf("Record gives %+v, want %+v", got, r)
+	}
+	if got := fresh.Value(r.Val); !reflect.DeepEqual(got, r.Val) {
+		t.Errorf("Value gives %+v, want %+v", got, r.Val)
+	}
+	if got := fresh.Record(api.Record{}); !reflect.DeepEqual(got, api.Record{}) {
+		t.Errorf("Record gives %+v, want zeros", got)
+	}
+}
+
+func TestACopySharesNothing(t *testing.T) {
+	r := sample()
+	got, val := fresh.Record(r), fresh.Value(r.Val)
+	spoil(r)
+	if !reflect.DeepEqual(got, sample()) || !reflect.DeepEqual(val, sample().Val) {
+		t.Errorf("a copy is written over with its original: %+v, %+v", got, val)
+	}
+	r = sample()
+	spoil(fresh.Record(r))
+	if !reflect.DeepEqual(r, sample()) {
+		t.Errorf("an original is written over with its copy: %+v", r)
+	}
+}
+
+func TestSpareRoomIsNotKept(t *testing.T) {
+	items, loops := make([]api.Value, 3), make([]int, 3)
+	for n := range 3 {
+		r := fresh.Record(api.Record{Val: api.Value{Items: items[:n]}, Loops: loops[:n]})
+		r.Val.Items, r.Loops = append(r.Val.Items, api.Value{Kind: 1}), append(r.Loops, 1)
+		if items[n].Kind != 0 || loops[n] != 0 {
+			t.Errorf("what is appended to a copy of %d items is seen behind the original", n)
+		}
+	}
+}
