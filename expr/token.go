@@ -5,6 +5,7 @@ import (
 	"strings"
 
 	"eddy/api"
+	"eddy/quote"
 	"eddy/value"
 )
 
@@ -94,28 +95,12 @@ func isWord(name string) bool {
 
 func (s *scanner) quoted() token {
 	at := s.at
-	form := s.cut(quotedSize(s.rest()))
+	form := s.cut(quote.Size(s.rest()))
 	v, _, e := value.Parse(form)
 	if e != api.OK || !isPlain(form) {
 		giveUp(at, api.ErrExprText)
 	}
 	return token{kind: valueToken, at: at, val: v}
-}
-
-// quotedSize counts the bytes of the text in quotes at the beginning of s: all of s, if no quote closes it.
-func quotedSize(s string) int {
-	slashes := 0
-	for at := 1; at < len(s); at++ {
-		switch {
-		case s[at] == '\\':
-			slashes++
-		case s[at] == '"' && slashes%2 == 0:
-			return at + 1
-		default:
-			slashes = 0
-		}
-	}
-	return len(s)
 }
 
 func isPlain(s string) bool {
