@@ -197,12 +197,12 @@ func TestATextIsNotKept(t *testing.T) {
 func TestListsOfAnswersAreApart(t *testing.T) {
 	for _, g := range tongues() {
 		var all []place
-		var alive []any
+		var alive []*memory
 		for _, s := range g.someTexts() {
 			for n := range 3 {
 				thing := g.wantTaken(t, "P6.16", s)
 				m := hanging(fmt.Sprintf("answer %d of Parse%s(%s)", n, g.name, short(s)), thing)
-				all, alive = append(all, m.lists...), append(alive, thing)
+				all, alive = append(all, m.lists...), append(alive, m)
 				// What is written over mustn't come out of the next call.
 				want, _ := g.model(s)
 				if !same(thing, want) {
@@ -212,6 +212,7 @@ func TestListsOfAnswersAreApart(t *testing.T) {
 			}
 		}
 		apart(t, "P6.16", all)
+		// An answer that is written over holds its inner lists no more: their memory would be handed out anew.
 		runtime.KeepAlive(alive)
 	}
 }
