@@ -6,11 +6,11 @@ import (
 	"strings"
 
 	"eddy/api"
+	"eddy/name"
 )
 
 const (
-	digits  = "0123456789"
-	letters = "abcdefghijklmnopqrstuvwxyz"
+	digits = "0123456789"
 
 	maxDigits = 9
 	// maxNumber is the greatest number of maxDigits digits.
@@ -44,19 +44,12 @@ func times(s string) (int, error) {
 	return n, nil
 }
 
-func isName(s string) bool {
-	if s == "" || len(s) > api.MaxName || strings.Trim(s, letters+digits) != "" {
-		return false
-	}
-	return strings.IndexByte(letters, s[0]) >= 0
-}
-
 // names holds the numbers of the tasks by their names.
 type names map[string]int
 
 // find gives the number of the task of that name; ErrPlanName, if there is none.
-func (n names) find(name string) (int, error) {
-	number, ok := n[name]
+func (n names) find(task string) (int, error) {
+	number, ok := n[task]
 	if !ok {
 		return 0, api.ErrPlanName
 	}
@@ -64,14 +57,14 @@ func (n names) find(name string) (int, error) {
 }
 
 // add gives the next number to a name that is one and that no task has yet.
-func (n names) add(name string) error {
-	if !isName(name) {
+func (n names) add(task string) error {
+	if !name.Fits(task) {
 		return api.ErrPlanName
 	}
-	if _, err := n.find(name); !errors.Is(err, api.ErrPlanName) {
+	if _, err := n.find(task); !errors.Is(err, api.ErrPlanName) {
 		return api.ErrPlanTwice
 	}
-	n[name] = len(n)
+	n[task] = len(n)
 	return nil
 }
 
