@@ -22,6 +22,18 @@ func Record(r api.Record) api.Record {
 	return r
 }
 
+// State copies a state, a valid one or not, field by field.
+func State(s api.State) api.State {
+	s.Cells = list(s.Cells, cell)
+	return s
+}
+
+func cell(c api.Cell) api.Cell {
+	c.Key = strings.Clone(c.Key)
+	c.Vals = list(c.Vals, Value)
+	return c
+}
+
 // list copies a list, each item as one copies it; an empty one gives nil, since its spare room is not to be kept.
 func list[T any](items []T, one func(T) T) []T {
 	if len(items) == 0 {

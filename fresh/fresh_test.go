@@ -46,6 +46,23 @@ func spoil(r api.Record) {
 	}
 }
 
+// sampleState gives a state, not a valid one, whose cells hold what a sample holds.
+func sampleState() api.State {
+	r := sample()
+	cells := append(make([]api.Cell, 0, 4), api.Cell{Key: r.Key, Vals: r.Val.Items}, api.Cell{Key: lent("b")})
+	return api.State{Num: -3, Cells: cells}
+}
+
+// spoilState writes over all that hangs on a sampleState, its spare room too.
+func spoilState(s api.State) {
+	spoilText(s.Cells[1].Key)
+	spoil(api.Record{Key: s.Cells[0].Key, Val: api.Value{Items: s.Cells[0].Vals}})
+	cells := s.Cells[:cap(s.Cells)]
+	for k := range cells {
+		cells[k] = api.Cell{Key: "spoilt"}
+	}
+}
+
 func TestACopyIsTheSameFieldByField(t *testing.T) {
 	r := sample()
 	if got := fresh.Record(r); !reflect.DeepEqual(got, r) {
@@ -53,6 +70,13 @@ func TestACopyIsTheSameFieldByField(t *testing.T) {
 	}
 	if got := fresh.Value(r.Val); !reflect.DeepEqual(got, r.Val) {
 		t.Errorf("Value gives %+v, want %+v", got, r.Val)
+	}
+	s := sampleState()
+	if got := fresh.State(s); !reflect.DeepEqual(got, s) {
+		t.Errorf("State gives %+v, want %+v", got, s)
+	}
+	if got := fresh.State(api.State{}); !reflect.DeepEqual(got, api.State{}) {
+		t.Errorf("State gives %+v, want zeros", got)
 	}
 	if got := fresh.Record(api.Record{}); !reflect.DeepEqual(got, api.Record{}) {
 		t.Errorf("Record gives %+v, want zeros", got)
@@ -71,11 +95,27 @@ func TestACopySharesNothing(t *testing.T) {
 	if !reflect.DeepEqual(r, sample()) {
 		t.Errorf("an original is written over with its copy: %+v", r)
 	}
+	s := sampleState()
+	state := fresh.State(s)
+	spoilState(s)
+	if !reflect.DeepEqual(state, sampleState()) {
+		t.Errorf("a copy is written over with its original: %+v", state)
+	}
+	s = sampleState()
+	spoilState(fresh.State(s))
+	if !reflect.DeepEqual(s, sampleState()) {
+		t.Errorf("an original is written over with its copy: %+v", s)
+	}
 }
 
 func TestSpareRoomIsNotKept(t *testing.T) {
-	items, loops := make([]api.Value, 3), make([]int, 3)
+	items, loops, cells := make([]api.Value, 3), make([]int, 3), make([]api.Cell, 3)
 	for n := range 3 {
+		s := fresh.State(api.State{Cells: cells[:n]})
+		s.Cells = append(s.Cells, api.Cell{Key: "behind"})
+		if cells[n].Key != "" {
+			t.Errorf("what is appended to a copy of %d cells is seen behind the original", n)
+		}
 		r := fresh.Record(api.Record{Val: api.Value{Items: items[:n]}, Loops: loops[:n]})
 		r.Val.Items, r.Loops = append(r.Val.Items, api.Value{Kind: 1}), append(r.Loops, 1)
 		if items[n].Kind != 0 || loops[n] != 0 {

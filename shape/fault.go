@@ -5,6 +5,7 @@ import (
 
 	"eddy/api"
 	"eddy/expr"
+	"eddy/kinds"
 	"eddy/name"
 )
 
@@ -40,7 +41,8 @@ func fault(p api.Plan) (int, api.Errno) {
 }
 
 func sized(p api.Plan) bool {
-	return span{1, api.MaxTasks}.holds(len(p.Tasks)) && len(p.Edges) <= api.MaxEdges && span{1, api.MaxCap}.holds(p.Cap)
+	tasks, bound := kinds.Span{Low: 1, High: api.MaxTasks}, kinds.Span{Low: 1, High: api.MaxCap}
+	return tasks.Holds(len(p.Tasks)) && len(p.Edges) <= api.MaxEdges && bound.Holds(p.Cap)
 }
 
 func wrongName(p api.Plan, task int) bool {
@@ -50,20 +52,20 @@ func wrongName(p api.Plan, task int) bool {
 }
 
 func wrongKind(p api.Plan, task int) bool {
-	n, ok := needsOf(p.Tasks[task].Kind)
-	return !ok || !n.num.holds(p.Tasks[task].Num)
+	needs, ok := kinds.Of(p.Tasks[task].Kind)
+	return !ok || !needs.Num.Holds(p.Tasks[task].Num)
 }
 
 func wrongExprs(p api.Plan, task int) bool {
 	t := p.Tasks[task]
-	n, _ := needsOf(t.Kind)
-	return len(t.Exprs) != n.exprs || slices.ContainsFunc(t.Exprs, func(text string) bool { return expr.Check(text) != nil })
+	needs, _ := kinds.Of(t.Kind)
+	return len(t.Exprs) != needs.Exprs || slices.ContainsFunc(t.Exprs, func(text string) bool { return expr.Check(text) != nil })
 }
 
 func wrongEnds(p api.Plan, edge int) bool {
 	e := p.Edges[edge]
-	tasks, ports := span{0, len(p.Tasks) - 1}, span{0, api.MaxPorts - 1}
-	return !tasks.holds(e.From) || !tasks.holds(e.To) || !ports.holds(e.Out) || !ports.holds(e.In)
+	tasks, ports := kinds.Span{High: len(p.Tasks) - 1}, kinds.Span{High: api.MaxPorts - 1}
+	return !tasks.Holds(e.From) || !tasks.Holds(e.To) || !ports.Holds(e.Out) || !ports.Holds(e.In)
 }
 
 func wrongPorts(p api.Plan, task int) bool {
@@ -76,8 +78,8 @@ func wrongPorts(p api.Plan, task int) bool {
 			outs = append(outs, e.Out)
 		}
 	}
-	n, _ := needsOf(p.Tasks[task].Kind)
-	return !n.ins.holds(len(ins)) || !n.outs.holds(len(outs)) || !countUp(ins) || !countUp(outs)
+	needs, _ := kinds.Of(p.Tasks[task].Kind)
+	return !needs.Ins.Holds(len(ins)) || !needs.Outs.Holds(len(outs)) || !countUp(ins) || !countUp(outs)
 }
 
 // countUp tells whether the ports are 0, 1 and so on, each once, in whatever order. It sorts them.
