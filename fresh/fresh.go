@@ -22,6 +22,9 @@ func Record(r api.Record) api.Record {
 	return r
 }
 
+// Records copies a list of records.
+func Records(l []api.Record) []api.Record { return list(l, Record) }
+
 // State copies a state, a valid one or not, field by field.
 func State(s api.State) api.State {
 	s.Cells = list(s.Cells, cell)
@@ -32,6 +35,11 @@ func cell(c api.Cell) api.Cell {
 	c.Key = strings.Clone(c.Key)
 	c.Vals = list(c.Vals, Value)
 	return c
+}
+
+// Config copies a configuration, one that fits a plan or not, field by field.
+func Config(c api.Config) api.Config {
+	return api.Config{States: list(c.States, State), Lanes: list(c.Lanes, Records), Outs: list(c.Outs, Records)}
 }
 
 // list copies a list, each item as one copies it; an empty one gives nil, since its spare room is not to be kept.

@@ -63,6 +63,42 @@ func spoilState(s api.State) {
 	}
 }
 
+// sampleConfig gives a configuration, not one of a plan, whose lists have spare room.
+func sampleConfig() api.Config {
+	records := func() []api.Record { return append(make([]api.Record, 0, 3), sample(), api.Record{Key: lent("b")}) }
+	return api.Config{
+		States: append(make([]api.State, 0, 3), sampleState(), api.State{Num: 7}),
+		Lanes:  append(make([][]api.Record, 0, 4), records(), nil, records()),
+		Outs:   append(make([][]api.Record, 0, 2), records()),
+	}
+}
+
+// spoilConfig writes over all that hangs on a sampleConfig, its spare room too.
+func spoilConfig(c api.Config) {
+	spoilState(c.States[0])
+	for _, lists := range [][][]api.Record{c.Lanes, c.Outs} {
+		for k, l := range lists {
+			if len(l) > 0 {
+				spoil(l[0])
+				spoilText(l[1].Key)
+			}
+			l = l[:cap(l)]
+			for k := range l {
+				l[k] = api.Record{Key: "spoilt"}
+			}
+			lists[k] = nil
+		}
+		lists = lists[:cap(lists)]
+		for k := range lists {
+			lists[k] = []api.Record{{Key: "spoilt"}}
+		}
+	}
+	states := c.States[:cap(c.States)]
+	for k := range states {
+		states[k] = api.State{Num: 4711}
+	}
+}
+
 func TestACopyIsTheSameFieldByField(t *testing.T) {
 	r := sample()
 	if got := fresh.Record(r); !reflect.DeepEqual(got, r) {
@@ -77,6 +113,16 @@ func TestACopyIsTheSameFieldByField(t *testing.T) {
 	}
 	if got := fresh.State(api.State{}); !reflect.DeepEqual(got, api.State{}) {
 		t.Errorf("State gives %+v, want zeros", got)
+	}
+	c := sampleConfig()
+	if got := fresh.Config(c); !reflect.DeepEqual(got, c) {
+		t.Errorf("Config gives %+v, want %+v", got, c)
+	}
+	if got := fresh.Config(api.Config{}); !reflect.DeepEqual(got, api.Config{}) {
+		t.Errorf("Config gives %+v, want zeros", got)
+	}
+	if got := fresh.Records(c.Outs[0]); !reflect.DeepEqual(got, c.Outs[0]) {
+		t.Errorf("Records gives %+v, want %+v", got, c.Outs[0])
 	}
 	if got := fresh.Record(api.Record{}); !reflect.DeepEqual(got, api.Record{}) {
 		t.Errorf("Record gives %+v, want zeros", got)
@@ -106,11 +152,28 @@ func TestACopySharesNothing(t *testing.T) {
 	if !reflect.DeepEqual(s, sampleState()) {
 		t.Errorf("an original is written over with its copy: %+v", s)
 	}
+	c := sampleConfig()
+	config, records := fresh.Config(c), fresh.Records(c.Outs[0])
+	spoilConfig(c)
+	if !reflect.DeepEqual(config, sampleConfig()) || !reflect.DeepEqual(records, sampleConfig().Outs[0]) {
+		t.Errorf("a copy is written over with its original: %+v, %+v", config, records)
+	}
+	c = sampleConfig()
+	spoilConfig(fresh.Config(c))
+	if !reflect.DeepEqual(c, sampleConfig()) {
+		t.Errorf("an original is written over with its copy: %+v", c)
+	}
 }
 
 func TestSpareRoomIsNotKept(t *testing.T) {
 	items, loops, cells := make([]api.Value, 3), make([]int, 3), make([]api.Cell, 3)
+	states, records, lanes := make([]api.State, 3), make([]api.Record, 3), make([][]api.Record, 3)
 	for n := range 3 {
+		c := fresh.Config(api.Config{States: states[:n], Lanes: lanes[:n], Outs: [][]api.Record{records[:n]}})
+		c.States, c.Lanes, c.Outs[0] = append(c.States, api.State{Num: 1}), append(c.Lanes, records), append(c.Outs[0], api.Record{Key: "behind"})
+		if states[n].Num != 0 || lanes[n] != nil || records[n].Key != "" {
+			t.Errorf("what is appended to a copy of %d states, lanes and records is seen behind the original", n)
+		}
 		s := fresh.State(api.State{Cells: cells[:n]})
 		s.Cells = append(s.Cells, api.Cell{Key: "behind"})
 		if cells[n].Key != "" {

@@ -4,113 +4,29 @@ import (
 	"math"
 	"math/rand"
 	"slices"
-	"strconv"
 	"strings"
 
 	"eddy/api"
+	"eddy/pen"
 )
 
-// A drawer makes plans by chance, the same ones for the same seed.
-type drawer struct{ *rand.Rand }
+// A drawer spoils plans by chance, in the same way for the same seed; the plans themselves are drawn by the pen.
+type drawer struct {
+	*rand.Rand
+	pen *pen.Pen
+}
 
-func seeded(seed int) drawer { return drawer{rand.New(rand.NewSource(int64(seed)))} }
+func seeded(seed int) drawer {
+	return drawer{rand.New(rand.NewSource(int64(seed))), pen.Seeded(seed)}
+}
+
+// plan draws a valid plan.
+func (d drawer) plan() api.Plan { return d.pen.Plan() }
 
 // between draws a number from low to high.
 func (d drawer) between(low, high int) int { return low + d.Intn(high-low+1) }
 
 func (d drawer) of(texts ...string) string { return texts[d.Intn(len(texts))] }
-
-// An end is an out port that no edge begins at yet.
-type end struct{ task, out int }
-
-// A draft is a plan on its way: open are the ends that no edge has yet, heads and tails those that have no mate yet.
-type draft struct {
-	drawer
-	p            api.Plan
-	open         []end
-	heads, tails []int
-}
-
-// plan draws a valid plan: tasks are laid one behind the other at ends that are open, sinks at those that are left, and then all numbers are shuffled.
-func (d drawer) plan() api.Plan {
-	for {
-		w := &draft{drawer: d, p: api.Plan{Cap: d.between(1, 8)}}
-		for range d.between(1, 3) {
-			w.lay("source")
-		}
-		for range d.Intn(10) {
-			w.lay(d.of("map", "filter", "fold", "union", "union", "split", "tee", "tee", "join", "window", "dedup", "head", "tail", "head"))
-		}
-		w.pair()
-		for len(w.open) > 0 {
-			w.lay("sink")
-		}
-		if len(w.p.Tasks) <= 12 && len(w.p.Edges) <= 24 {
-			return w.shuffled()
-		}
-	}
-}
-
-// lay lays a task at open ends, if there are enough of them.
-func (w *draft) lay(kind string) {
-	r := rowNamed(kind)
-	ins, outs := w.between(r.inLow, r.inHigh), w.between(r.outLow, r.outHigh)
-	if kind == "head" {
-		ins = 1
-	}
-	if len(w.open) < ins {
-		return
-	}
-	task := len(w.p.Tasks)
-	t := api.Task{Name: "n" + strconv.Itoa(task), Kind: r.kind, Num: w.between(r.numLow, r.numHigh)}
-	for range r.exprs {
-		t.Exprs = append(t.Exprs, w.of("val", "key", "1+2", "if val then 1 else [key, hops]", `"text"`))
-	}
-	w.p.Tasks = append(w.p.Tasks, t)
-	for in := range ins {
-		k := w.Intn(len(w.open))
-		w.p.Edges = append(w.p.Edges, api.Edge{From: w.open[k].task, Out: w.open[k].out, To: task, In: in})
-		w.open = slices.Delete(w.open, k, k+1)
-	}
-	for out := range outs {
-		if kind != "tail" || out == 1 {
-			w.open = append(w.open, end{task, out})
-		}
-	}
-	switch kind {
-	case "head":
-		w.heads = append(w.heads, task)
-	case "tail":
-		w.tails = append(w.tails, task)
-	}
-}
-
-// pair makes as many tails as heads, and links them by chance: a head need not reach its tail.
-func (w *draft) pair() {
-	for len(w.heads) > len(w.tails) {
-		w.lay("tail")
-	}
-	for len(w.tails) > len(w.heads) {
-		w.lay("head")
-	}
-	for k, tail := range w.Perm(len(w.tails)) {
-		w.p.Edges = append(w.p.Edges, api.Edge{From: w.tails[tail], Out: 0, To: w.heads[k], In: 1})
-	}
-}
-
-// shuffled gives tasks and edges other numbers.
-func (w *draft) shuffled() api.Plan {
-	p := api.Plan{Cap: w.p.Cap, Tasks: make([]api.Task, len(w.p.Tasks)), Edges: slices.Clone(w.p.Edges)}
-	numbers := w.Perm(len(p.Tasks))
-	for old, number := range numbers {
-		p.Tasks[number] = w.p.Tasks[old]
-	}
-	for k := range p.Edges {
-		p.Edges[k].From, p.Edges[k].To = numbers[p.Edges[k].From], numbers[p.Edges[k].To]
-	}
-	w.Shuffle(len(p.Edges), func(a, b int) { p.Edges[a], p.Edges[b] = p.Edges[b], p.Edges[a] })
-	return p
-}
 
 // spoilt gives a copy of a plan, changed at one place or a few; it may be valid still.
 func (d drawer) spoilt(p api.Plan) api.Plan {

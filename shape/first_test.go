@@ -5,6 +5,7 @@ import (
 	"testing"
 
 	"eddy/api"
+	"eddy/pen"
 	"eddy/shape"
 )
 
@@ -75,8 +76,7 @@ func TestTheLeastOfACycleInEveryOrder(t *testing.T) {
 	whole := made(1, "s:source u:union o:tee m:map k:sink", "s.0>u.0 u.0>m.0 m.0>o.0 o.0>u.1 o.1>k.0")
 	wantFault(t, "P7.2.8", whole, 1, api.ErrShapeCycle)
 	for seed := range 200 {
-		w := &draft{drawer: seeded(seed), p: whole}
-		p := w.shuffled()
+		p := pen.Seeded(seed).Shuffled(whole)
 		least := slices.IndexFunc(p.Tasks, func(t api.Task) bool { return t.Name == "u" || t.Name == "o" || t.Name == "m" })
 		wantFault(t, "P7.2.8: of several the least", p, least, api.ErrShapeCycle)
 	}

@@ -9,6 +9,7 @@ import (
 	"testing"
 
 	"eddy/api"
+	"eddy/pen"
 	"eddy/stage"
 	"eddy/value"
 )
@@ -19,44 +20,13 @@ func num(n int64) api.Value             { return api.Value{Kind: api.Int, Int: n
 func text(s string) api.Value           { return api.Value{Kind: api.Text, Text: s} }
 func list(items ...api.Value) api.Value { return api.Value{Kind: api.List, Items: items} }
 
-// val reads the text of a value.
-func val(s string) api.Value {
-	v, _, e := value.Parse(s)
-	if e != api.OK {
-		panic("a test has no value: " + s)
-	}
-	return v
-}
-
-func number(s string) int {
-	n, err := strconv.Atoi(s)
-	if err != nil {
-		panic("a test has no number: " + s)
-	}
-	return n
-}
-
-// rec reads a record: `a=[1, 2]@0@3` has the key a, and the loop counters 0 and 3.
-func rec(s string) api.Record {
-	parts := strings.Split(s, "@")
-	key, v, _ := strings.Cut(parts[0], "=")
-	r := api.Record{Key: key, Val: val(v)}
-	for _, n := range parts[1:] {
-		r.Loops = append(r.Loops, number(n))
-	}
-	return r
-}
-
-// state reads a state: `7`, or `0; a:[5, none]; b:[]` with two cells.
-func state(s string) api.State {
-	parts := strings.Split(s, "; ")
-	all := api.State{Num: number(parts[0])}
-	for _, c := range parts[1:] {
-		key, vals, _ := strings.Cut(c, ":")
-		all.Cells = append(all.Cells, api.Cell{Key: key, Vals: val(vals).Items})
-	}
-	return all
-}
+// Values, records and states that are written by hand are read by the pen's readers.
+var (
+	val    = pen.ReadValue
+	number = pen.ReadNumber
+	rec    = pen.ReadRecord
+	state  = pen.ReadState
+)
 
 // sends reads what goes out: `0 a=1 | 2 b=none@4`; the empty text is nothing.
 func sends(s string) []api.Send {
