@@ -11,16 +11,8 @@ import (
 	"unsafe"
 
 	"eddy/api"
+	"eddy/pen"
 )
-
-// roomyList copies a list, each item as one copies it, with spare room behind it that holds marks.
-func roomyList[T any](in []T, mark T, one func(T) T) []T {
-	all := slices.Repeat([]T{mark}, len(in)+3)
-	for k, x := range in {
-		all[k] = one(x)
-	}
-	return all[:len(in)]
-}
 
 // lent gives a text in bytes of its own, which can be written over afterwards.
 func lent(s string) string {
@@ -29,13 +21,13 @@ func lent(s string) string {
 }
 
 func roomyValue(v api.Value) api.Value {
-	v.Text, v.Items = lent(v.Text), roomyList(v.Items, text("spare"), roomyValue)
+	v.Text, v.Items = lent(v.Text), pen.Roomy(v.Items, text("spare"), roomyValue)
 	return v
 }
 
 func roomyRecord(r api.Record) api.Record {
 	r.Key, r.Val = lent(r.Key), roomyValue(r.Val)
-	r.Loops = roomyList(r.Loops, 77, func(n int) int { return n })
+	r.Loops = pen.Roomy(r.Loops, 77, pen.Plain)
 	return r
 }
 
@@ -46,8 +38,8 @@ func roomyItem(x api.Item) api.Item {
 
 // roomy gives the call with arguments that scribble can write over as a whole.
 func (c call) roomy() call {
-	c.items = roomyList(c.items, item("spare"), roomyItem)
-	c.records = roomyList(c.records, rec("spare"), roomyRecord)
+	c.items = pen.Roomy(c.items, item("spare"), roomyItem)
+	c.records = pen.Roomy(c.records, rec("spare"), roomyRecord)
 	return c
 }
 
@@ -105,24 +97,16 @@ func (a answer) memory() *memory {
 
 // scribble writes over all lists and their spare room.
 func (m *memory) scribble() {
-	fill(m.items, marker(4711))
-	fill(m.records, rec("scribbled"))
-	fill(m.values, text("scribbled"))
-	fill(m.loops, 4711)
-}
-
-func fill[T any](lists [][]T, mark T) {
-	for _, l := range lists {
-		for k := range l {
-			l[k] = mark
-		}
-	}
+	pen.Fill(m.items, marker(4711))
+	pen.Fill(m.records, rec("scribbled"))
+	pen.Fill(m.values, text("scribbled"))
+	pen.Fill(m.loops, 4711)
 }
 
 // scribbleTexts writes over the bytes of the texts, which must have been lent.
 func (m *memory) scribbleTexts() {
 	for _, s := range m.texts {
-		fill([][]byte{unsafe.Slice(unsafe.StringData(s), len(s))}, '#')
+		pen.Fill([][]byte{unsafe.Slice(unsafe.StringData(s), len(s))}, '#')
 	}
 }
 

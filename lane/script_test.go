@@ -2,10 +2,12 @@ package lane_test
 
 import (
 	"math/rand"
+	"slices"
 	"strconv"
 	"testing"
 
 	"eddy/api"
+	"eddy/pen"
 )
 
 // shortCalls gives calls of every kind, as few as tell all ways of a lane apart.
@@ -30,26 +32,13 @@ func plays(t *testing.T, room int, script []call) bool {
 }
 
 func TestAllShortScriptsAgainstTheModel(t *testing.T) {
-	calls := shortCalls()
 	last := call{kind: callList}
 	for _, room := range []int{0, 1, 2} {
-		script := make([]call, 0, 6)
-		var on func() bool
-		on = func() bool {
-			if len(script) == 5 {
-				return plays(t, room, append(script, last))
+		for script := range pen.Rows(shortCalls(), 5) {
+			if !plays(t, room, append(slices.Clone(script), last)) {
+				return
 			}
-			for _, c := range calls {
-				script = append(script, c)
-				well := on()
-				script = script[:len(script)-1]
-				if !well {
-					return false
-				}
-			}
-			return true
 		}
-		on()
 	}
 }
 

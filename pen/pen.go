@@ -1,4 +1,4 @@
-// Package pen: plans, tapes, states and configurations for the tests of the layers, drawn from a seed: the same ones for the same seed. No layer calls it.
+// Package pen: plans, tapes, states and configurations for the tests of the layers, drawn from a seed (the same ones for the same seed) or read from texts, and lists for these tests. No layer calls it.
 package pen
 
 // Pen: where the drawing stands.

@@ -1,6 +1,7 @@
 package pen_test
 
 import (
+	"fmt"
 	"reflect"
 	"slices"
 	"testing"
@@ -127,5 +128,38 @@ func TestNumbers(t *testing.T) {
 	}
 	if p.Below(0) != 0 || p.Below(-3) != 0 {
 		t.Error("there is no number below 0 to be drawn")
+	}
+}
+
+func TestRows(t *testing.T) {
+	for count, want := range []string{"[[]]", "[[a] [b] [c]]", "[[a a] [a b] [a c] [b a] [b b] [b c] [c a] [c b] [c c]]"} {
+		var got [][]string
+		for row := range pen.Rows([]string{"a", "b", "c"}, count) {
+			got = append(got, slices.Clone(row))
+		}
+		if fmt.Sprint(got) != want {
+			t.Errorf("the rows of %d are %v, want %s", count, got, want)
+		}
+	}
+	left := 0
+	for range pen.Rows([]int{1, 2, 3}, 4) {
+		if left++; left == 7 {
+			break
+		}
+	}
+	if left != 7 {
+		t.Errorf("rows that are left at the 7th are gone through up to number %d", left)
+	}
+}
+
+func TestRoomyAndFill(t *testing.T) {
+	given := []int{1, 2}
+	roomy := pen.Roomy(given, 77, func(n int) int { return 10 * n })
+	if whole := roomy[:cap(roomy)]; len(roomy) != 2 || !slices.Equal(whole, []int{10, 20, 77, 77, 77}) {
+		t.Errorf("a list with spare room is %v in %v", roomy, whole)
+	}
+	pen.Fill([][]int{given, nil, roomy}, 5)
+	if !slices.Equal(given, []int{5, 5}) || !slices.Equal(roomy[:3], []int{5, 5, 77}) {
+		t.Errorf("lists that are written over are %v and %v", given, roomy[:3])
 	}
 }

@@ -9,6 +9,7 @@ import (
 	"unsafe"
 
 	"eddy/api"
+	"eddy/pen"
 	"eddy/stage"
 )
 
@@ -18,29 +19,20 @@ func lent(s string) string {
 	return unsafe.String(unsafe.SliceData(b), len(b))
 }
 
-// roomy copies a list, each item as one copies it, with spare room behind it that holds marks.
-func roomy[T any](in []T, mark T, one func(T) T) []T {
-	all := slices.Repeat([]T{mark}, len(in)+3)
-	for k, x := range in {
-		all[k] = one(x)
-	}
-	return all[:len(in)]
-}
-
 func roomyValue(v api.Value) api.Value {
-	v.Text, v.Items = lent(v.Text), roomy(v.Items, text("spare"), roomyValue)
+	v.Text, v.Items = lent(v.Text), pen.Roomy(v.Items, text("spare"), roomyValue)
 	return v
 }
 
 func roomyRecord(r api.Record) api.Record {
 	r.Key, r.Val = lent(r.Key), roomyValue(r.Val)
-	r.Loops = roomy(r.Loops, 77, func(n int) int { return n })
+	r.Loops = pen.Roomy(r.Loops, 77, pen.Plain)
 	return r
 }
 
 func roomyState(s api.State) api.State {
-	s.Cells = roomy(s.Cells, api.Cell{Key: "spare"}, func(c api.Cell) api.Cell {
-		return api.Cell{Key: lent(c.Key), Vals: roomy(c.Vals, text("spare"), roomyValue)}
+	s.Cells = pen.Roomy(s.Cells, api.Cell{Key: "spare"}, func(c api.Cell) api.Cell {
+		return api.Cell{Key: lent(c.Key), Vals: pen.Roomy(c.Vals, text("spare"), roomyValue)}
 	})
 	return s
 }
@@ -91,24 +83,16 @@ func (m *memory) whole() string { return shown(*m) }
 
 // scribble writes over all lists and their spare room.
 func (m *memory) scribble() {
-	fill(m.cells, api.Cell{Key: "scribbled"})
-	fill(m.sends, api.Send{Out: 4711})
-	fill(m.values, text("scribbled"))
-	fill(m.loops, 4711)
+	pen.Fill(m.cells, api.Cell{Key: "scribbled"})
+	pen.Fill(m.sends, api.Send{Out: 4711})
+	pen.Fill(m.values, text("scribbled"))
+	pen.Fill(m.loops, 4711)
 }
 
 // scribbleTexts writes over the bytes of the texts, which must have been lent.
 func (m *memory) scribbleTexts() {
 	for _, s := range m.texts {
-		fill([][]byte{unsafe.Slice(unsafe.StringData(s), len(s))}, '#')
-	}
-}
-
-func fill[T any](lists [][]T, mark T) {
-	for _, l := range lists {
-		for k := range l {
-			l[k] = mark
-		}
+		pen.Fill([][]byte{unsafe.Slice(unsafe.StringData(s), len(s))}, '#')
 	}
 }
 
@@ -252,15 +236,15 @@ func TestATaskIsNotKept(t *testing.T) {
 		k := task(r.kind, r.numHigh, texts...)
 		given := k
 		given.Name = lent(k.Name)
-		given.Exprs = roomy(texts, "spare", lent)
+		given.Exprs = pen.Roomy(texts, "spare", lent)
 		g, e := stage.New(given, r.inHigh, r.outHigh)
 		if e != api.OK || !same(given, k) || !slices.Equal(given.Exprs[:cap(given.Exprs)][r.exprs:], []string{"spare", "spare", "spare"}) {
 			t.Errorf("P8, Rules for all calls: New changes the task %+v, or answers error %d", given, e)
 		}
 		for _, s := range append(given.Exprs, given.Name) {
-			fill([][]byte{unsafe.Slice(unsafe.StringData(s), len(s))}, '#')
+			pen.Fill([][]byte{unsafe.Slice(unsafe.StringData(s), len(s))}, '#')
 		}
-		fill([][]string{given.Exprs[:cap(given.Exprs)]}, "scribbled")
+		pen.Fill([][]string{given.Exprs[:cap(given.Exprs)]}, "scribbled")
 		kept := tried{g, k, r.inHigh, r.outHigh}
 		for _, in := range someRecords() {
 			for port := range kept.picks() {
