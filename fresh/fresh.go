@@ -37,6 +37,13 @@ func cell(c api.Cell) api.Cell {
 	return c
 }
 
+// Delta copies a difference of states, a fit one or not, field by field.
+func Delta(d api.Delta) api.Delta {
+	d.Set = list(d.Set, cell)
+	d.Gone = list(d.Gone, strings.Clone)
+	return d
+}
+
 // Config copies a configuration, one that fits a plan or not, field by field.
 func Config(c api.Config) api.Config {
 	return api.Config{States: list(c.States, State), Lanes: list(c.Lanes, Records), Outs: list(c.Outs, Records)}

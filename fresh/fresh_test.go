@@ -63,6 +63,23 @@ func spoilState(s api.State) {
 	}
 }
 
+// sampleDelta gives a difference of states, not a fit one, whose cells are those of a sampleState.
+func sampleDelta() api.Delta {
+	return api.Delta{Num: -3, Set: sampleState().Cells, Gone: append(make([]string, 0, 4), lent("gone"), lent(""), lent("gone"))}
+}
+
+// spoilDelta writes over all that hangs on a sampleDelta, its spare room too.
+func spoilDelta(d api.Delta) {
+	spoilState(api.State{Cells: d.Set})
+	for _, key := range d.Gone {
+		spoilText(key)
+	}
+	gone := d.Gone[:cap(d.Gone)]
+	for k := range gone {
+		gone[k] = "spoilt"
+	}
+}
+
 // sampleConfig gives a configuration, not one of a plan, whose lists have spare room.
 func sampleConfig() api.Config {
 	records := func() []api.Record { return append(make([]api.Record, 0, 3), sample(), api.Record{Key: lent("b")}) }
@@ -114,6 +131,13 @@ func TestACopyIsTheSameFieldByField(t *testing.T) {
 	if got := fresh.State(api.State{}); !reflect.DeepEqual(got, api.State{}) {
 		t.Errorf("State gives %+v, want zeros", got)
 	}
+	d := sampleDelta()
+	if got := fresh.Delta(d); !reflect.DeepEqual(got, d) {
+		t.Errorf("Delta gives %+v, want %+v", got, d)
+	}
+	if got := fresh.Delta(api.Delta{}); !reflect.DeepEqual(got, api.Delta{}) {
+		t.Errorf("Delta gives %+v, want zeros", got)
+	}
 	c := sampleConfig()
 	if got := fresh.Config(c); !reflect.DeepEqual(got, c) {
 		t.Errorf("Config gives %+v, want %+v", got, c)
@@ -152,6 +176,17 @@ func TestACopySharesNothing(t *testing.T) {
 	if !reflect.DeepEqual(s, sampleState()) {
 		t.Errorf("an original is written over with its copy: %+v", s)
 	}
+	d := sampleDelta()
+	delta := fresh.Delta(d)
+	spoilDelta(d)
+	if !reflect.DeepEqual(delta, sampleDelta()) {
+		t.Errorf("a copy is written over with its original: %+v", delta)
+	}
+	d = sampleDelta()
+	spoilDelta(fresh.Delta(d))
+	if !reflect.DeepEqual(d, sampleDelta()) {
+		t.Errorf("an original is written over with its copy: %+v", d)
+	}
 	c := sampleConfig()
 	config, records := fresh.Config(c), fresh.Records(c.Outs[0])
 	spoilConfig(c)
@@ -166,7 +201,7 @@ func TestACopySharesNothing(t *testing.T) {
 }
 
 func TestSpareRoomIsNotKept(t *testing.T) {
-	items, loops, cells := make([]api.Value, 3), make([]int, 3), make([]api.Cell, 3)
+	items, loops, cells, keys := make([]api.Value, 3), make([]int, 3), make([]api.Cell, 3), make([]string, 3)
 	states, records, lanes := make([]api.State, 3), make([]api.Record, 3), make([][]api.Record, 3)
 	for n := range 3 {
 		c := fresh.Config(api.Config{States: states[:n], Lanes: lanes[:n], Outs: [][]api.Record{records[:n]}})
@@ -178,6 +213,11 @@ func TestSpareRoomIsNotKept(t *testing.T) {
 		s.Cells = append(s.Cells, api.Cell{Key: "behind"})
 		if cells[n].Key != "" {
 			t.Errorf("what is appended to a copy of %d cells is seen behind the original", n)
+		}
+		d := fresh.Delta(api.Delta{Set: cells[:n], Gone: keys[:n]})
+		d.Set, d.Gone = append(d.Set, api.Cell{Key: "behind"}), append(d.Gone, "behind")
+		if cells[n].Key != "" || keys[n] != "" {
+			t.Errorf("what is appended to a copy of %d cells and keys is seen behind the original", n)
 		}
 		r := fresh.Record(api.Record{Val: api.Value{Items: items[:n]}, Loops: loops[:n]})
 		r.Val.Items, r.Loops = append(r.Val.Items, api.Value{Kind: 1}), append(r.Loops, 1)

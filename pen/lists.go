@@ -44,3 +44,16 @@ func Fill[T any](lists [][]T, mark T) {
 		}
 	}
 }
+
+// Apart writes over all items of lists, in each with a mark of its own, and tells whether each list holds its mark then: whether no two of them share memory.
+func Apart[T any](lists [][]T, mark func(int) T, same func(T, T) bool) bool {
+	for k, list := range lists {
+		Fill([][]T{list}, mark(k))
+	}
+	for k, list := range lists {
+		if slices.ContainsFunc(list, func(item T) bool { return !same(item, mark(k)) }) {
+			return false
+		}
+	}
+	return true
+}

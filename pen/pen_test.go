@@ -163,3 +163,26 @@ func TestRoomyAndFill(t *testing.T) {
 		t.Errorf("lists that are written over are %v and %v", given, roomy[:3])
 	}
 }
+
+func TestApart(t *testing.T) {
+	same := func(a, b int) bool { return a == b }
+	long := make([]int, 6)
+	for k, x := range []struct {
+		lists [][]int
+		apart bool
+	}{
+		{nil, true},
+		{[][]int{nil, {}, nil}, true},
+		{[][]int{make([]int, 3), make([]int, 3), {7}}, true},
+		{[][]int{long[:3], long[3:], {7}}, true},
+		{[][]int{long[:0], long, long[6:]}, true},
+		{[][]int{long, {7}, long}, false},
+		{[][]int{long[:4], long[3:]}, false},
+		{[][]int{long[3:], {7}, long[:4]}, false},
+		{[][]int{long, long[5:]}, false},
+	} {
+		if got := pen.Apart(x.lists, pen.Plain, same); got != x.apart {
+			t.Errorf("number %d: the lists are apart: %v, want %v", k, got, x.apart)
+		}
+	}
+}

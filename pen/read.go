@@ -65,10 +65,28 @@ func ReadState(text string) api.State {
 	parts := strings.Split(text, "; ")
 	s := api.State{Num: ReadNumber(parts[0])}
 	for _, c := range parts[1:] {
-		key, vals, _ := strings.Cut(c, ":")
-		s.Cells = append(s.Cells, api.Cell{Key: key, Vals: ReadValue(vals).Items})
+		s.Cells = append(s.Cells, readCell(c))
 	}
 	return s
+}
+
+func readCell(text string) api.Cell {
+	key, vals, _ := strings.Cut(text, ":")
+	return api.Cell{Key: key, Vals: ReadValue(vals).Items}
+}
+
+// ReadDelta reads a difference of states: `4; b:[3]; -a; -c` has a cell b, and the keys a and c are gone.
+func ReadDelta(text string) api.Delta {
+	parts := strings.Split(text, "; ")
+	d := api.Delta{Num: ReadNumber(parts[0])}
+	for _, one := range parts[1:] {
+		if key, gone := strings.CutPrefix(one, "-"); gone {
+			d.Gone = append(d.Gone, key)
+		} else {
+			d.Set = append(d.Set, readCell(one))
+		}
+	}
+	return d
 }
 
 // ReadConfig reads a configuration: the states, the lanes and the outputs, each with a / between two of them.

@@ -23,6 +23,9 @@ func TestRead(t *testing.T) {
 		{pen.ReadLists("a=1 / / a=1 | a=1"), [][]api.Record{{a}, nil, {a, a}}},
 		{pen.ReadLists(""), [][]api.Record{nil}},
 		{pen.ReadState("7; a:[5, none]; b:[]"), cells},
+		{pen.ReadDelta("7; a:[5, none]; b:[]; -; -c"), api.Delta{Num: 7, Set: cells.Cells, Gone: []string{"", "c"}}},
+		{pen.ReadDelta("-2; -c"), api.Delta{Num: -2, Gone: []string{"c"}}},
+		{pen.ReadDelta("0"), api.Delta{}},
 		{pen.ReadConfig("0 / 7; a:[5, none]; b:[]", "a=1 /", ""), api.Config{States: []api.State{{}, cells}, Lanes: [][]api.Record{{a}, nil}, Outs: [][]api.Record{nil}}},
 		{pen.ReadEvents("0.0 2.-1"), []api.Event{{}, {Task: 2, Port: -1}}},
 		{pen.ReadPlan("s source 0", "k sink", "s.0 k.0"), api.Plan{Cap: 1, Tasks: []api.Task{{Name: "s", Kind: api.Source}, {Name: "k", Kind: api.Sink}}, Edges: []api.Edge{{To: 1}}}},
@@ -40,6 +43,8 @@ func TestWhatCantBeRead(t *testing.T) {
 		func() { pen.ReadRecord("a") },
 		func() { pen.ReadRecord("a=1@x") },
 		func() { pen.ReadState("a") },
+		func() { pen.ReadDelta("a") },
+		func() { pen.ReadDelta("1; a") },
 		func() { pen.ReadEvents("1") },
 		func() { pen.ReadPlan("s nothing") },
 	} {
