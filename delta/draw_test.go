@@ -8,7 +8,6 @@ import (
 	"eddy/api"
 	"eddy/fresh"
 	"eddy/pen"
-	"eddy/value"
 )
 
 // A drawer draws states and deltas. It has a list of keys, so that they meet; its length lets states be empty, small, full, or too small for what comes.
@@ -234,9 +233,6 @@ func TestAllShortCalls(t *testing.T) {
 			applyOf(s, d).wants(t, "P11.3", applyOf(s, d).modelled())
 		}
 		for _, e := range deltas {
-			if value.CheckState(api.State{Cells: e.Set}) != api.OK && len(e.Gone) > 1 {
-				continue
-			}
 			joinOf(d, e).wants(t, "P11.4", joinOf(d, e).modelled())
 		}
 		if t.Failed() {
