@@ -12,6 +12,15 @@ func Config(a, b api.Config) bool {
 	return slices.EqualFunc(a.States, b.States, State) && slices.EqualFunc(a.Lanes, b.Lanes, Records) && slices.EqualFunc(a.Outs, b.Outs, Records)
 }
 
+// Shot compares two snapshots.
+func Shot(a, b api.Shot) bool {
+	return a.Id == b.Id && a.Sum == b.Sum && slices.EqualFunc(a.Parts, b.Parts, part)
+}
+
+func part(a, b api.Part) bool {
+	return State(a.State, b.State) && slices.EqualFunc(a.Logs, b.Logs, Records) && Records(a.Pend, b.Pend)
+}
+
 // State compares two states.
 func State(a, b api.State) bool { return a.Num == b.Num && slices.EqualFunc(a.Cells, b.Cells, cell) }
 

@@ -19,6 +19,12 @@ func sample() api.Config {
 	})
 }
 
+// sampleShot gives a snapshot, not one of a plan, of what a sample holds.
+func sampleShot() api.Shot {
+	c := sample()
+	return api.Shot{Id: -3, Sum: 7, Parts: []api.Part{{State: c.States[0], Logs: c.Lanes, Pend: c.Outs[0]}, {}, {Logs: c.Outs}}}
+}
+
 // clone copies a thing and all that hangs on it; empty lists become nil.
 func clone[T any](x T) T { return deep(reflect.ValueOf(x)).Interface().(T) }
 
@@ -52,6 +58,9 @@ func eachChange(v reflect.Value, path string, see func(path string)) {
 	case reflect.Int, reflect.Int64:
 		try("one more", v.Int()+1)
 		try("one less", v.Int()-1)
+	case reflect.Uint32:
+		try("one more", v.Uint()+1)
+		try("one less", v.Uint()-1)
 	case reflect.String:
 		try("a byte more", v.String()+"\x00")
 		if v.Len() > 0 {
@@ -99,6 +108,7 @@ func wantOther[T any](t *testing.T, x T, same func(a, b T) bool) {
 func TestEveryFieldCounts(t *testing.T) {
 	c := sample()
 	wantOther(t, c, equal.Config)
+	wantOther(t, sampleShot(), equal.Shot)
 	wantOther(t, c.States[0], equal.State)
 	wantOther(t, c.Lanes[0], equal.Records)
 	wantOther(t, c.Lanes[0][0], equal.Record)
@@ -116,12 +126,25 @@ func TestAListInAnothersPlace(t *testing.T) {
 	if equal.Config(a, b) {
 		t.Error("two lanes are exchanged, and the configurations are the same")
 	}
+	one, other := sampleShot(), sampleShot()
+	other.Parts[0].Pend, other.Parts[0].Logs[0] = other.Parts[0].Logs[0], other.Parts[0].Pend
+	if equal.Shot(one, other) {
+		t.Error("a log and the pending output are exchanged, and the snapshots are the same")
+	}
+	other = sampleShot()
+	other.Parts[0], other.Parts[2] = other.Parts[2], other.Parts[0]
+	if equal.Shot(one, other) {
+		t.Error("two parts are exchanged, and the snapshots are the same")
+	}
 }
 
 func TestNilAndEmptyAreTheSame(t *testing.T) {
 	empty := api.Config{States: []api.State{}, Lanes: [][]api.Record{}, Outs: make([][]api.Record, 0, 3)}
 	if !equal.Config(api.Config{}, empty) || !equal.Config(empty, api.Config{}) {
 		t.Error("a configuration of empty lists isn't the same as one of none")
+	}
+	if !equal.Shot(api.Shot{Parts: make([]api.Part, 1)}, api.Shot{Parts: []api.Part{{Logs: [][]api.Record{}, Pend: []api.Record{}}}}) || !equal.Shot(api.Shot{}, api.Shot{Parts: []api.Part{}}) {
+		t.Error("a snapshot of empty lists isn't the same as one of none")
 	}
 	if !equal.State(api.State{}, api.State{Cells: []api.Cell{}}) || !equal.Records(nil, []api.Record{}) {
 		t.Error("an empty list isn't the same as none")
