@@ -66,8 +66,9 @@ type modelShot struct {
 
 // A reading is a Load on its way; it throws what it must answer.
 type reading struct {
-	model
 	modelShot
+	lies map[string]api.File
+	down bool
 }
 
 func (r *reading) throw(name string, e api.Errno) {
@@ -85,8 +86,10 @@ func caught(do func()) (lost *api.Lost) {
 	return nil
 }
 
-func (m model) read(id int) (modelShot, *api.Lost) {
-	r := &reading{model: m, modelShot: modelShot{shot: api.Shot{Id: id}}}
+func (m model) read(id int) (modelShot, *api.Lost) { return m.readOf(m.lies(), id) }
+
+func (m model) readOf(lies map[string]api.File, id int) (modelShot, *api.Lost) {
+	r := &reading{modelShot{shot: api.Shot{Id: id}}, lies, m.down()}
 	if lost := caught(r.whole); lost != nil {
 		return modelShot{}, lost
 	}
@@ -94,7 +97,7 @@ func (m model) read(id int) (modelShot, *api.Lost) {
 }
 
 func (r *reading) bodyOf(name string) []byte {
-	f, there := r.lies()[name]
+	f, there := r.lies[name]
 	if !there {
 		r.throw(name, api.ErrVaultGone)
 	}
@@ -111,7 +114,7 @@ func (r *reading) whole() {
 	if id < 1 || id > 9999 {
 		r.throw("", api.ErrVaultId)
 	}
-	if r.down() {
+	if r.down {
 		r.throw(man(id), api.ErrDiskDown)
 	}
 	m, e := wire.GetManifest(r.bodyOf(man(id)))
@@ -166,17 +169,27 @@ func thrown(lost *api.Lost) error {
 	return lost
 }
 
-func (m model) Ids() []int {
-	var all []int
-	for name := range m.lies() {
+// complete gives the complete shots, rising.
+func (m model) complete() []modelShot {
+	var all []modelShot
+	lies := m.lies()
+	for name := range lies {
 		if !manForm.MatchString(name) {
 			continue
 		}
-		if _, lost := m.read(numberIn(name)); lost == nil {
-			all = append(all, numberIn(name))
+		if s, lost := m.readOf(lies, numberIn(name)); lost == nil {
+			all = append(all, s)
 		}
 	}
-	slices.Sort(all)
+	slices.SortFunc(all, func(a, b modelShot) int { return a.shot.Id - b.shot.Id })
+	return all
+}
+
+func (m model) Ids() []int {
+	var all []int
+	for _, s := range m.complete() {
+		all = append(all, s.shot.Id)
+	}
 	return all
 }
 
@@ -193,14 +206,9 @@ func (m model) Next() int {
 
 // sure gives the sure shots, rising.
 func (m model) sure() []modelShot {
-	var all []modelShot
-	for _, id := range m.Ids() {
-		s, _ := m.read(id)
-		if !slices.ContainsFunc(s.files, func(f api.File) bool { return f.Synced != len(f.Data) }) {
-			all = append(all, s)
-		}
-	}
-	return all
+	return slices.DeleteFunc(m.complete(), func(s modelShot) bool {
+		return slices.ContainsFunc(s.files, func(f api.File) bool { return f.Synced != len(f.Data) })
+	})
 }
 
 // A change is a changing call of the disk that a vault must make.
@@ -258,10 +266,11 @@ func (m model) Save(s api.Shot) error {
 // changes gives what a Save must do; it throws what it must answer else.
 func (m model) changes(s api.Shot) []change {
 	r := &reading{modelShot: modelShot{shot: api.Shot{Id: s.Id}}}
+	next := m.Next()
 	switch {
 	case m.down():
 		r.throw("", api.ErrDiskDown)
-	case s.Id < m.Next() || s.Id > 9999:
+	case s.Id < next || s.Id > 9999:
 		r.throw("", api.ErrVaultId)
 	case len(s.Parts) < 1 || len(s.Parts) > 12:
 		r.throw("", api.ErrVaultPart)

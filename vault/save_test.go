@@ -76,15 +76,15 @@ type wrongShot struct {
 	want api.Lost
 }
 
-// long gives records that can't be framed together.
+// long gives so many records that are as long as may be; 200 of them can't be framed together.
 func long(records int) []api.Record {
 	r := api.Record{Key: "twelve bytes", Val: api.Value{Kind: api.List, Items: slices.Repeat([]api.Value{text(strings.Repeat("t", 24))}, 6)}}
 	return slices.Repeat([]api.Record{r}, records)
 }
 
-// wrongShots gives shots that can't be saved, in the order of P12.7; each is wrong in all that those behind it are.
+// wrongShots gives shots that can't be saved, in the order of P12.7; many are wrong in what comes later there too.
 func wrongShots() []wrongShot {
-	bad, tooLong := api.Part{State: api.State{Num: -1}}, api.Part{Logs: [][]api.Record{long(256)}}
+	bad := api.Part{State: api.State{Num: -1}}
 	many := slices.Repeat([]api.Part{bad}, 13)
 	all := []wrongShot{}
 	for _, id := range []int{math.MinInt, -1, 0, 1, 3, 10000, 10001, math.MaxInt} {
@@ -96,17 +96,24 @@ func wrongShots() []wrongShot {
 		for _, parts := range [][]api.Part{nil, {}, many, slices.Repeat([]api.Part{part("1")}, 13), make([]api.Part, 1000)} {
 			all = append(all, wrongShot{"a number of parts", shot(id, parts...), at(id, "", api.ErrVaultPart)})
 		}
-		well := slices.Repeat([]api.Part{part("1")}, 12)
-		for k := range well {
-			for _, x := range wrongParts() {
-				parts := slices.Concat(well[:k], []api.Part{x.part}, slices.Repeat([]api.Part{bad}, 11-k))
-				all = append(all, wrongShot{"a part", shot(id, parts...), at(id, seg(id, k), x.err)})
-				parts = slices.Concat(well[:k], []api.Part{x.part}, slices.Repeat([]api.Part{tooLong}, 11-k))
-				all = append(all, wrongShot{"a part", shot(id, parts...), at(id, seg(id, k), x.err)})
-			}
+	}
+	for _, x := range wrongParts() {
+		for k := range 12 {
+			all = append(all, wrongIn(4, k, x, 11, x), wrongIn(9999, k, x, k, x))
+		}
+		for _, y := range wrongParts() {
+			all = append(all, wrongIn(4, 0, x, 1, y), wrongIn(5, 3, x, 11, y))
 		}
 	}
 	return all
+}
+
+// wrongIn gives a shot of twelve parts, of which two are wrong; the first of them is told.
+func wrongIn(id, first int, x wrongPart, second int, y wrongPart) wrongShot {
+	parts := slices.Repeat([]api.Part{part("1")}, 12)
+	parts[second] = y.part
+	parts[first] = x.part
+	return wrongShot{fmt.Sprint("parts ", first, " and ", second), shot(id, parts...), at(id, seg(id, first), x.err)}
 }
 
 type wrongPart struct {
@@ -139,7 +146,7 @@ func TestErrorsOfSave(t *testing.T) {
 	before := s.Files()
 	s.Fail(0, 1)
 	for _, x := range wrongShots() {
-		refused(t, "P12.7, "+x.what, "Save of "+shotTold(x.shot), s.Save(x.shot), x.want)
+		refused(t, "P12.7", "Save, wrong in "+x.what, s.Save(x.shot), x.want)
 		if !sameFiles(s.Files(), before) {
 			t.Fatalf("P12.7: a refused Save of %s changes the files to %s", shotTold(x.shot), told(s.Files()))
 		}
@@ -147,7 +154,7 @@ func TestErrorsOfSave(t *testing.T) {
 	refused(t, "P12.7", "the first changing call, behind all that were refused", s.Save(wideShot(4)), at(4, "seg-0004-00", api.ErrDiskIO))
 	s.Crash()
 	for _, x := range append(wrongShots(), wrongShot{shot: wideShot(4)}) {
-		refused(t, "P12.7.1", "Save of "+shotTold(x.shot)+" while the machine is down", s.Save(x.shot), at(x.shot.Id, "", api.ErrDiskDown))
+		refused(t, "P12.7.1", "Save while the machine is down", s.Save(x.shot), at(x.shot.Id, "", api.ErrDiskDown))
 	}
 	if !sameFiles(s.Files(), before) {
 		t.Errorf("P12.7: Save changes the files while the machine is down")
@@ -248,27 +255,18 @@ func TestTheBaseIsSure(t *testing.T) {
 	wantBases(t, "P12.8", sure.again(t).saves(t, wideShot(4)), 2)
 	late := sure.again(t)
 	late.Restart([]int{1 << 20})
-	wantBases(t, "P12.8", late.saves(t, wideShot(4)), 3)
-	for _, name := range []string{"seg-0001-00", "seg-0002-00", "seg-0003-00", "man-0003"} {
-		files := late.Files()
-		for k := range files {
-			if files[k].Name == name {
-				files[k].Synced--
+	wantBases(t, "P12.8", late.again(t).saves(t, wideShot(4)), 3)
+	for name, base := range map[string]int{"seg-0001-00": 0, "man-0001": 3, "seg-0002-00": 1, "man-0002": 3, "seg-0003-00": 2, "man-0003": 2} {
+		for _, unsure := range []int{1, 9} {
+			files := late.Files()
+			for k := range files {
+				if files[k].Name == name {
+					files[k].Synced -= unsure
+				}
 			}
+			wantBases(t, fmt.Sprint("P12.8, unsure bytes of ", name, ": ", unsure), begun(t, files...).saves(t, wideShot(4)), base)
 		}
-		base := map[string]int{"seg-0003-00": 2, "man-0003": 2}[name]
-		if name == "seg-0002-00" {
-			base = 1
-		}
-		wantBases(t, "P12.8, a byte of "+name+" isn't sure", begun(t, files[:3:3]...).adds(t, files[4:]...).saves(t, wideShot(5)), base)
 	}
-}
-
-// adds lays files to a store's own.
-func (s store) adds(t *testing.T, files ...api.File) store {
-	t.Helper()
-	files = slices.DeleteFunc(files, func(f api.File) bool { return strings.Contains(f.Name, "0004") })
-	return begun(t, append(s.Files(), files...)...)
 }
 
 // TestABaseThatIsSpoilt: one that doesn't load is none.
