@@ -42,8 +42,8 @@ func (s *snapshot) copy(state api.State, pend []api.Record) bool {
 
 // release lets go of the ports that were held for the copy.
 func (s *snapshot) release() {
-	for port, now := range s.stands {
-		if now == held {
+	for port := range s.stands {
+		if s.stands[port] == held {
 			s.stands[port] = closed
 		}
 	}

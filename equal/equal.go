@@ -14,10 +14,11 @@ func Config(a, b api.Config) bool {
 
 // Shot compares two snapshots.
 func Shot(a, b api.Shot) bool {
-	return a.Id == b.Id && a.Sum == b.Sum && slices.EqualFunc(a.Parts, b.Parts, part)
+	return a.Id == b.Id && a.Sum == b.Sum && slices.EqualFunc(a.Parts, b.Parts, Part)
 }
 
-func part(a, b api.Part) bool {
+// Part compares what two tasks hand in.
+func Part(a, b api.Part) bool {
 	return State(a.State, b.State) && slices.EqualFunc(a.Logs, b.Logs, Records) && Records(a.Pend, b.Pend)
 }
 

@@ -109,6 +109,7 @@ func TestEveryFieldCounts(t *testing.T) {
 	c := sample()
 	wantOther(t, c, equal.Config)
 	wantOther(t, sampleShot(), equal.Shot)
+	wantOther(t, sampleShot().Parts[0], equal.Part)
 	wantOther(t, c.States[0], equal.State)
 	wantOther(t, c.Lanes[0], equal.Records)
 	wantOther(t, c.Lanes[0][0], equal.Record)
