@@ -1,17 +1,13 @@
 package flow_test
 
 import (
-	"cmp"
-	"reflect"
-	"runtime"
 	"slices"
-	"strconv"
-	"strings"
 	"testing"
 	"unsafe"
 
 	"eddy/api"
 	"eddy/flow"
+	"eddy/memory"
 	"eddy/pen"
 )
 
@@ -22,132 +18,14 @@ func lent(s string) string {
 }
 
 // roomy copies a thing: every list has spare room behind it that holds marks, every text is lent.
-func roomy[T any](x T) T { return roomyCopy(reflect.ValueOf(x)).Interface().(T) }
+func roomy[T any](x T) T { return memory.Roomy(x, lent) }
 
-func roomyCopy(v reflect.Value) reflect.Value {
-	all := reflect.New(v.Type()).Elem()
-	switch v.Kind() {
-	case reflect.Slice:
-		all.Set(reflect.MakeSlice(v.Type(), v.Len()+3, v.Len()+3))
-		for k := range all.Len() {
-			if k < v.Len() {
-				all.Index(k).Set(roomyCopy(v.Index(k)))
-			} else {
-				mark(all.Index(k), 77)
-			}
-		}
-		return all.Slice(0, v.Len())
-	case reflect.Struct:
-		for k := range v.NumField() {
-			all.Field(k).Set(roomyCopy(v.Field(k)))
-		}
-	case reflect.String:
-		all.SetString(lent(v.String()))
-	default:
-		all.Set(v)
+// writeOver writes over a memory of roomy things, its texts too.
+func writeOver(m *memory.Memory) {
+	for _, s := range m.Texts() {
+		pen.Fill([][]byte{unsafe.Slice(unsafe.StringData(s), len(s))}, '#')
 	}
-	return all
-}
-
-// mark writes over a thing: its numbers become n, its texts say so, its lists are gone.
-func mark(v reflect.Value, n int) {
-	switch v.Kind() {
-	case reflect.Struct:
-		for k := range v.NumField() {
-			mark(v.Field(k), n)
-		}
-	case reflect.String:
-		v.SetString("marked " + strconv.Itoa(n))
-	case reflect.Slice:
-		v.SetZero()
-	default:
-		v.SetInt(int64(n))
-	}
-}
-
-// A memory is all that hangs on some things: their lists, each with its spare room, and their texts.
-type memory struct {
-	lists []reflect.Value
-	texts []string
-}
-
-func memoryOf(things ...any) *memory {
-	m := &memory{}
-	for _, x := range things {
-		m.add(reflect.ValueOf(x))
-	}
-	return m
-}
-
-func (m *memory) add(v reflect.Value) {
-	switch v.Kind() {
-	case reflect.Struct:
-		for k := range v.NumField() {
-			m.add(v.Field(k))
-		}
-	case reflect.String:
-		m.texts = append(m.texts, v.String())
-	case reflect.Slice:
-		m.lists = append(m.lists, v.Slice(0, v.Cap()))
-		for k := range v.Len() {
-			m.add(v.Index(k))
-		}
-	}
-}
-
-// whole writes all of it, spare room too.
-func (m *memory) whole() string {
-	var s strings.Builder
-	for _, l := range m.lists {
-		s.WriteString(shown(l.Interface()) + "\n")
-	}
-	return s.String() + shown(m.texts)
-}
-
-// scribble writes over all lists and their spare room.
-func (m *memory) scribble() {
-	for _, l := range m.lists {
-		for k := range l.Len() {
-			mark(l.Index(k), 4711)
-		}
-	}
-}
-
-// scribbleTexts writes over the bytes of the texts, which must have been lent.
-func (m *memory) scribbleTexts() {
-	for _, s := range m.texts {
-		b := unsafe.Slice(unsafe.StringData(s), len(s))
-		for k := range b {
-			b[k] = '#'
-		}
-	}
-}
-
-// A strip is where a list lies, its spare room in.
-type strip struct {
-	from, to uintptr
-	of       string
-}
-
-func (m *memory) strips(of string) []strip {
-	var all []strip
-	for _, l := range m.lists {
-		if l.Len() > 0 {
-			all = append(all, strip{l.Pointer(), l.Pointer() + uintptr(l.Len())*l.Type().Elem().Size(), of + ", " + l.Type().String()})
-		}
-	}
-	return all
-}
-
-// apart fails the test if two lists share memory.
-func (f tried) apart(t *testing.T, all []strip) {
-	t.Helper()
-	slices.SortFunc(all, func(a, b strip) int { return cmp.Compare(a.from, b.from) })
-	for k := 1; k < len(all); k++ {
-		if all[k].from < all[k-1].to {
-			t.Fatalf("P9, The face: %v: a list of %s shares memory with one of %s", f, all[k].of, all[k-1].of)
-		}
-	}
+	m.Scribble()
 }
 
 // An answer is what the calls answer of a configuration and events.
@@ -160,6 +38,9 @@ type answer struct {
 	Count   int
 	Err     api.Errno
 }
+
+// lists gives what of an answer has lists.
+func (a answer) lists() []any { return []any{a.Enabled, a.Step, a.Replay} }
 
 func asked(f *flow.Flow, c api.Config, l []api.Event) answer {
 	var a answer
@@ -198,23 +79,23 @@ func TestWhatIsHandedInStays(t *testing.T) {
 		f, c, l := question(t, pen.Seeded(seed))
 		want := f.modelled(c, l)
 		c, l = roomy(c), roomy(l)
-		given := memoryOf(c, l)
-		before := given.whole()
+		given := memory.Of(c, l)
+		before := given.Told()
 		a, b := asked(f.Flow, c, l), asked(f.Flow, c, l)
 		f.Same(c, c)
-		if given.whole() != before {
+		if given.Told() != before {
 			t.Fatalf("P9, The face: %v: a call changes the configuration %v or the events %v", f, tell(c), l)
 		}
 		if !same(a, want) || !same(b, want) {
 			t.Fatalf("P9, The face: %v: with spare room behind the lists, %v and %v answer %s and %s, want %s", f, tell(c), l, shown(a), shown(b), shown(want))
 		}
-		first, second := memoryOf(a), memoryOf(b)
-		f.apart(t, slices.Concat(given.strips("what is handed in"), first.strips("an answer"), second.strips("the answer behind it")))
-		first.scribble()
-		if given.whole() != before || !same(b, want) || !same(asked(f.Flow, c, l), want) {
+		if !memory.Of(slices.Concat([]any{c, l}, a.lists(), b.lists())...).Apart() {
+			t.Fatalf("P9, The face: %v: a list of an answer shares memory with another one, handed in or answered", f)
+		}
+		memory.Of(a.lists()...).Scribble()
+		if given.Told() != before || !same(b, want) || !same(asked(f.Flow, c, l), want) {
 			t.Fatalf("P9, The face: %v: what is written into an answer is seen elsewhere", f)
 		}
-		runtime.KeepAlive([]*memory{given, first, second})
 	}
 }
 
@@ -225,9 +106,7 @@ func TestNothingIsKept(t *testing.T) {
 		want := f.modelled(c, l)
 		givenC, givenL := roomy(c), roomy(l)
 		got := asked(f.Flow, givenC, givenL)
-		given := memoryOf(givenC, givenL)
-		given.scribbleTexts()
-		given.scribble()
+		writeOver(memory.Of(givenC, givenL))
 		if !same(got, want) {
 			t.Fatalf("P9, The face: %v: an answer shares memory with what was handed in: %s, want %s", f, shown(got), shown(want))
 		}
@@ -240,17 +119,16 @@ func TestPlanAndTapesAreNotKept(t *testing.T) {
 		f, c, l := question(t, pen.Seeded(seed))
 		want := f.modelled(c, l)
 		p, tapes := roomy(f.plan), roomy(f.tapes)
-		given := memoryOf(p, tapes)
-		before := given.whole()
+		given := memory.Of(p, tapes)
+		before := given.Told()
 		g, e := flow.New(p, tapes)
-		if e != api.OK || given.whole() != before {
+		if e != api.OK || given.Told() != before {
 			t.Fatalf("P9, The face: New changes the plan or the tapes of %v, or answers error %d", f, e)
 		}
-		answers := memoryOf(g.Start(), asked(g, c, l))
-		f.apart(t, slices.Concat(given.strips("the plan or the tapes"), answers.strips("an answer")))
-		runtime.KeepAlive([]*memory{given, answers})
-		given.scribbleTexts()
-		given.scribble()
+		if !memory.Of(append(asked(g, c, l).lists(), p, tapes, g.Start())...).Apart() {
+			t.Fatalf("P9, The face: %v: a list of an answer shares memory with one of the plan or the tapes", f)
+		}
+		writeOver(given)
 		if got := asked(g, c, l); !same(got, want) || !same(g.Start(), f.start()) {
 			t.Fatalf("P9, The face: %v keeps the plan or the tapes that it was made of: %s, want %s", f, shown(got), shown(want))
 		}
@@ -268,7 +146,7 @@ func TestAFlowNeverChanges(t *testing.T) {
 			if !same(got, want) || !same(start, f.start()) {
 				t.Fatalf("P9, The face: %v: behind other calls %v and %v are answered with %s, want %s", f, tell(c), l, shown(got), shown(want))
 			}
-			memoryOf(got, start).scribble()
+			memory.Of(append(got.lists(), start)...).Scribble()
 			other := d.Config(f.plan, f.tapes, 3)
 			list, _ := f.draw(t, d, other, 6)
 			asked(f.Flow, spoilt(d, other), append(list, api.Event{Task: -1}))

@@ -1,11 +1,7 @@
 package vault_test
 
 import (
-	"cmp"
 	"errors"
-	"fmt"
-	"reflect"
-	"runtime"
 	"slices"
 	"strings"
 	"sync"
@@ -14,6 +10,8 @@ import (
 
 	"eddy/api"
 	"eddy/equal"
+	"eddy/memory"
+	"eddy/pen"
 	"eddy/vault"
 )
 
@@ -25,179 +23,16 @@ func lent(s string) string {
 	return unsafe.String(unsafe.SliceData(b), len(b))
 }
 
-// roomy copies a thing: each list has spare room behind it that holds marks, each text is lent.
-func roomy[T any](x T) T { return copied(reflect.ValueOf(x)).Interface().(T) }
+// roomy copies a shot: each list has spare room behind it that holds marks, each text is lent.
+func roomy(s api.Shot) api.Shot { return memory.Roomy(s, lent) }
 
-func copied(v reflect.Value) reflect.Value {
-	all := reflect.New(v.Type()).Elem()
-	switch v.Kind() {
-	case reflect.Slice:
-		all.Set(reflect.MakeSlice(v.Type(), v.Len()+3, v.Len()+3))
-		for k := range all.Len() {
-			if k < v.Len() {
-				all.Index(k).Set(copied(v.Index(k)))
-			} else {
-				all.Index(k).Set(marked(v.Type().Elem(), "spare"))
-			}
-		}
-		return all.Slice(0, v.Len())
-	case reflect.Struct:
-		for k := range v.NumField() {
-			all.Field(k).Set(copied(v.Field(k)))
-		}
-	case reflect.String:
-		all.SetString(lent(v.String()))
-	default:
-		all.Set(v)
+// writeOver writes over all that hangs on a roomy shot, its texts too.
+func writeOver(s api.Shot) {
+	m := memory.Of(s)
+	for _, text := range m.Texts() {
+		pen.Fill([][]byte{unsafe.Slice(unsafe.StringData(text), len(text))}, '#')
 	}
-	return all
-}
-
-// marked gives a thing whose numbers and texts are marks, and whose lists are none.
-func marked(of reflect.Type, mark string) reflect.Value {
-	v := reflect.New(of).Elem()
-	switch of.Kind() {
-	case reflect.Int, reflect.Int64:
-		v.SetInt(4711)
-	case reflect.Uint32:
-		v.SetUint(4711)
-	case reflect.String:
-		v.SetString(mark)
-	case reflect.Struct:
-		for k := range of.NumField() {
-			v.Field(k).Set(marked(of.Field(k).Type, mark))
-		}
-	}
-	return v
-}
-
-// eachList goes through all lists that hang on a thing, the inner ones first, each with its spare room; and through all texts.
-func eachList(v reflect.Value, list, text func(v reflect.Value)) {
-	switch v.Kind() {
-	case reflect.Slice:
-		for k := range v.Len() {
-			eachList(v.Index(k), list, text)
-		}
-		if v.Cap() > 0 {
-			list(v.Slice(0, v.Cap()))
-		}
-	case reflect.Struct:
-		for k := range v.NumField() {
-			eachList(v.Field(k), list, text)
-		}
-	case reflect.String:
-		text(v)
-	}
-}
-
-func nothing(reflect.Value) {}
-
-// whole writes all that hangs on a thing, list by list, spare room too.
-func whole(x any) string {
-	var all strings.Builder
-	eachList(reflect.ValueOf(x), func(l reflect.Value) {
-		for k := range l.Len() {
-			flat(&all, l.Index(k))
-		}
-		all.WriteString("\n")
-	}, nothing)
-	return all.String()
-}
-
-// flat writes a thing, but of the lists in it their lengths alone.
-func flat(all *strings.Builder, v reflect.Value) {
-	switch v.Kind() {
-	case reflect.Struct:
-		for k := range v.NumField() {
-			flat(all, v.Field(k))
-		}
-	case reflect.Slice:
-		fmt.Fprint(all, "[", v.Len(), "] ")
-	default:
-		fmt.Fprintf(all, "%#v ", v)
-	}
-}
-
-// scribble writes over all lists of a thing and their spare room.
-func scribble(x any) {
-	eachList(reflect.ValueOf(x), func(l reflect.Value) {
-		for k := range l.Len() {
-			l.Index(k).Set(marked(l.Type().Elem(), "scribbled"))
-		}
-	}, nothing)
-}
-
-// scribbleTexts writes over the bytes of all texts of a thing, which must have been lent.
-func scribbleTexts(x any) {
-	eachList(reflect.ValueOf(x), nothing, func(v reflect.Value) {
-		s := v.String()
-		for k := range len(s) {
-			unsafe.Slice(unsafe.StringData(s), len(s))[k] = '#'
-		}
-	})
-}
-
-// apart tells whether no two lists of some things share memory, spare room too.
-func apart(things ...any) bool {
-	type strip struct{ from, to uintptr }
-	var all []strip
-	for _, x := range things {
-		eachList(reflect.ValueOf(x), func(l reflect.Value) {
-			all = append(all, strip{l.Pointer(), l.Pointer() + uintptr(l.Len())*l.Type().Elem().Size()})
-		}, nothing)
-	}
-	slices.SortFunc(all, func(a, b strip) int { return cmp.Compare(a.from, b.from) })
-	for k := 1; k < len(all); k++ {
-		if all[k].from < all[k-1].to {
-			return false
-		}
-	}
-	// Memory that is free again may be handed out anew.
-	runtime.KeepAlive(things)
-	return true
-}
-
-// extended appends to each list of a thing; nothing of it may be seen.
-func extended(x any) {
-	var each func(v reflect.Value)
-	each = func(v reflect.Value) {
-		switch v.Kind() {
-		case reflect.Slice:
-			reflect.Append(v, marked(v.Type().Elem(), "behind"), marked(v.Type().Elem(), "behind"))
-			for k := range v.Len() {
-				each(v.Index(k))
-			}
-		case reflect.Struct:
-			for k := range v.NumField() {
-				each(v.Field(k))
-			}
-		}
-	}
-	each(reflect.ValueOf(x))
-}
-
-// TestMemoryHelp: lists that share memory are seen, and so is what is written behind a list.
-func TestMemoryHelp(t *testing.T) {
-	one := shot(1, part("3; a:[[1], 2]; b:[]", "a=1@0 | b=2 / ", "p=1"))
-	copy, again := roomy(one), roomy(one)
-	if !equal.Shot(copy, one) || whole(copy) != whole(again) || whole(copy) == whole(one) {
-		t.Errorf("a copy with spare room is %s", shotTold(copy))
-	}
-	if !apart(one, copy, again) || apart(copy, copy) || apart(one.Parts[0].Pend[:1], one.Parts[0].Pend) || apart(copy.Parts[0].State.Cells[:1], copy.Parts[0].State.Cells[1:]) {
-		t.Error("lists that share memory are told as apart, or others as not")
-	}
-	before := whole(again)
-	extended(again)
-	if !equal.Shot(again, one) || whole(again) == before {
-		t.Error("what is appended isn't seen in the spare room")
-	}
-	scribbleTexts(copy)
-	if copy.Parts[0].State.Cells[0].Key != "#" || one.Parts[0].State.Cells[0].Key != "a" {
-		t.Error("texts that are lent aren't written over")
-	}
-	if scribble(copy); equal.Shot(copy, one) || copy.Parts[0].Pend != nil {
-		t.Error("lists aren't written over")
-	}
+	m.Scribble()
 }
 
 // memoryShots gives shots, one behind the other, that a store takes, some full and some as differences.
@@ -213,8 +48,8 @@ func memoryShots(seed int) []api.Shot {
 // stays lets a shot be saved, well or not, and fails the test where that changes anything of it, or of the spare room behind its lists.
 func (s store) stays(t *testing.T, given api.Shot) {
 	t.Helper()
-	before := whole(given)
-	if s.Save(given); whole(given) != before {
+	before := memory.Of(given).Told()
+	if s.Save(given); memory.Of(given).Told() != before {
 		t.Fatalf("%s: Save of %s changes what it is handed, or the spare room behind it", rules, shotTold(given))
 	}
 }
@@ -230,8 +65,7 @@ func TestWhatIsHandedInStays(t *testing.T) {
 			given := roomy(want)
 			s.stays(t, given)
 			files := s.Files()
-			scribbleTexts(given)
-			scribble(given)
+			writeOver(given)
 			if !sameFiles(s.Files(), files) {
 				t.Fatalf("%s: Save of %s keeps what it is handed", rules, shotTold(want))
 			}
@@ -255,17 +89,14 @@ func TestAnswersAreNewMemory(t *testing.T) {
 			b, _ := s.Load(want.Id)
 			c, _ := s.Load(1)
 			ids, again := s.Ids(), s.Ids()
-			if !apart(want, a, b, c, ids, again) {
+			if !memory.Of(want, a, b, c, ids, again).Apart() {
 				t.Fatalf("%s: two lists of what Load(%d) and Ids answer share memory", rules, want.Id)
 			}
-			extended(a)
-			extended(ids)
+			memory.Of(a, ids).Extend()
 			if !equal.Shot(a, want) || !slices.Equal(ids, []int{1, 2, 3, 4, 5}) {
 				t.Fatalf("%s: what is appended to a list of Load(%d)'s answer is seen in another", rules, want.Id)
 			}
-			scribble(a)
-			scribble(c)
-			scribble(ids)
+			memory.Of(a, c, ids).Scribble()
 			if !equal.Shot(b, want) || !slices.Equal(again, []int{1, 2, 3, 4, 5}) || !sameFiles(s.Files(), files) {
 				t.Fatalf("%s: what is written into the answer of Load(%d) is seen elsewhere", rules, want.Id)
 			}
@@ -293,15 +124,15 @@ func TestOneListHandedInTwice(t *testing.T) {
 	p := api.Part{State: wide(20, 5), Logs: [][]api.Record{long(2), long(1)}, Pend: long(2)}
 	p.Logs[1] = p.Logs[0]
 	one := shot(1, p, p, p)
-	before := whole(one)
+	before := memory.Of(one).Told()
 	s := begun(t).saved(t, one, shot(2, one.Parts...))
 	for id := 1; id <= 2; id++ {
 		got, err := s.Load(id)
-		if one.Id = id; err != nil || !equal.Shot(got, one) || !apart(got) {
+		if one.Id = id; err != nil || !equal.Shot(got, one) || !memory.Of(got).Apart() {
 			t.Errorf("%s: Load(%d) answers %s, %v, or lists of it share memory", rules, id, shotTold(got), err)
 		}
 	}
-	if whole(one) != before {
+	if memory.Of(one).Told() != before {
 		t.Errorf("%s: what is handed in is changed", rules)
 	}
 }
