@@ -21,8 +21,7 @@ const (
 type snapshot struct {
 	now    int
 	stands [api.MaxPorts]stand
-	copied bool // the copy is made
-	handed bool // the part was handed out: nothing hangs on the snapshot any more
+	copied bool // the copy is made, and its part wasn't handed out
 	state  api.State
 	pend   []api.Record
 	logs   [api.MaxPorts][]api.Record
@@ -93,5 +92,5 @@ func (b *Book) aligned() bool {
 	return true
 }
 
-// done tells whether nothing more belongs to the part.
+// done tells whether there is a part to which nothing more will belong.
 func (b *Book) done() bool { return b.copied && !slices.Contains(b.stands[:b.ports], open) }

@@ -89,12 +89,13 @@ func TestWhatIsHandedInStays(t *testing.T) {
 		if !same(a, want) || !same(b, want) {
 			t.Fatalf("P9, The face: %v: with spare room behind the lists, %v and %v answer %s and %s, want %s", f, tell(c), l, shown(a), shown(b), shown(want))
 		}
-		if !memory.Of(slices.Concat([]any{c, l}, a.lists(), b.lists())...).Apart() {
-			t.Fatalf("P9, The face: %v: a list of an answer shares memory with another one, handed in or answered", f)
-		}
+		all := memory.Of(slices.Concat([]any{c, l}, a.lists(), b.lists())...)
 		memory.Of(a.lists()...).Scribble()
 		if given.Told() != before || !same(b, want) || !same(asked(f.Flow, c, l), want) {
 			t.Fatalf("P9, The face: %v: what is written into an answer is seen elsewhere", f)
+		}
+		if !all.Apart() {
+			t.Fatalf("P9, The face: %v: a list of an answer shares memory with another one, handed in or answered", f)
 		}
 	}
 }

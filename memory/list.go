@@ -11,7 +11,6 @@ type list interface {
 	told() string
 	fill(text string, number int)
 	extend()
-	places(all map[any]struct{}) int
 	items(m *Memory)
 	roomy(lend func(string) string) any
 }
@@ -36,15 +35,6 @@ func (l listOf[T]) fill(text string, number int) {
 }
 
 func (l listOf[T]) extend() { _ = append(l, mark[T]("behind", 99), mark[T]("behind", 99)) }
-
-// places adds the place of each item, and tells how many there are.
-func (l listOf[T]) places(all map[any]struct{}) int {
-	whole := l[:cap(l)]
-	for k := range whole {
-		all[&whole[k]] = struct{}{}
-	}
-	return len(whole)
-}
 
 func (l listOf[T]) items(m *Memory) {
 	for _, item := range l {

@@ -1,7 +1,10 @@
 // Package memory: what hangs on things of package api: their lists, each with the spare room behind it, and their texts. It is for the tests of the layers alone, which look whether a call changes, keeps or shares what it is handed, or what it answered before. No layer calls it.
 package memory
 
-import "strings"
+import (
+	"strconv"
+	"strings"
+)
 
 // Memory: all that hangs on some things.
 type Memory struct {
@@ -43,14 +46,19 @@ func (m *Memory) Extend() {
 	}
 }
 
-// Apart tells whether no two of the lists share memory, spare room too.
+// Apart writes over all lists, in each with a mark of its own, and tells whether each holds its mark then: whether no two of them share memory, spare room too.
 func (m *Memory) Apart() bool {
-	places := map[any]struct{}{}
-	count := 0
-	for _, l := range m.lists {
-		count += l.places(places)
+	marked := make([]string, len(m.lists))
+	for k, l := range m.lists {
+		l.fill(strconv.Itoa(k), k)
+		marked[k] = l.told()
 	}
-	return len(places) == count
+	for k, l := range m.lists {
+		if l.told() != marked[k] {
+			return false
+		}
+	}
+	return true
 }
 
 // Roomy copies a thing of those that Of takes: behind each list lies spare room that holds marks, each text is what lend makes of it.

@@ -174,18 +174,26 @@ func TestExtend(t *testing.T) {
 // TestApart: lists that share all of their memory, an item, or spare room alone, aren't apart.
 func TestApart(t *testing.T) {
 	for _, x := range samples() {
-		copied := Roomy(x, lent)
-		if all, _ := lists(reflect.ValueOf(x)); !Of(x, copied, Roomy(x, lent)).Apart() || Of(x, copied, x).Apart() != (len(all) == 0) {
-			t.Errorf("copies of %#v aren't apart, or the same thing is apart from itself", x)
+		one, other := Roomy(x, lent), Roomy(x, lent)
+		if !Of(one, other).Apart() {
+			t.Errorf("copies of %#v aren't apart", x)
+		}
+		count := len(Of(x).lists)
+		for n := range count {
+			one = Roomy(x, lent)
+			all, _ := lists(reflect.ValueOf(one))
+			if Of(one, all[n].Interface()).Apart() {
+				t.Errorf("list %d of %#v is apart from itself", n, x)
+			}
 		}
 	}
-	numbers := make([]int, 3, 6)
-	for _, other := range [][]int{numbers[2:3], numbers[:0], numbers[3:4], numbers[3:3]} {
-		if Of(numbers, other).Apart() {
+	for _, pieces := range [][2]int{{2, 3}, {0, 0}, {3, 4}, {3, 3}} {
+		numbers := make([]int, 3, 6)
+		if other := numbers[pieces[0]:pieces[1]]; Of(numbers, other).Apart() || Of(other, numbers).Apart() {
 			t.Errorf("a list and a piece of it, with room for %d items, are apart", cap(other))
 		}
 	}
-	if halves := Of(numbers[:2:2], numbers[2:]); !halves.Apart() {
+	if numbers := make([]int, 3, 6); !Of(numbers[:2:2], numbers[2:]).Apart() {
 		t.Error("two pieces of a list aren't apart")
 	}
 	if !Of([]int(nil), []int(nil), []string{}, []string{}).Apart() {

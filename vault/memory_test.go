@@ -89,9 +89,7 @@ func TestAnswersAreNewMemory(t *testing.T) {
 			b, _ := s.Load(want.Id)
 			c, _ := s.Load(1)
 			ids, again := s.Ids(), s.Ids()
-			if !memory.Of(want, a, b, c, ids, again).Apart() {
-				t.Fatalf("%s: two lists of what Load(%d) and Ids answer share memory", rules, want.Id)
-			}
+			all := memory.Of(a, b, c, ids, again)
 			memory.Of(a, ids).Extend()
 			if !equal.Shot(a, want) || !slices.Equal(ids, []int{1, 2, 3, 4, 5}) {
 				t.Fatalf("%s: what is appended to a list of Load(%d)'s answer is seen in another", rules, want.Id)
@@ -99,6 +97,9 @@ func TestAnswersAreNewMemory(t *testing.T) {
 			memory.Of(a, c, ids).Scribble()
 			if !equal.Shot(b, want) || !slices.Equal(again, []int{1, 2, 3, 4, 5}) || !sameFiles(s.Files(), files) {
 				t.Fatalf("%s: what is written into the answer of Load(%d) is seen elsewhere", rules, want.Id)
+			}
+			if !all.Apart() {
+				t.Fatalf("%s: two lists of what Load(%d) and Ids answer share memory", rules, want.Id)
 			}
 			s.loads(t, rules, want)
 			s.has(t, rules, 6, 1, 2, 3, 4, 5)
