@@ -153,8 +153,8 @@ func agree(b book, m *model, c call) (answer, string) {
 // follow holds a book against the model and against its own history, call by call.
 func follow(t *testing.T, k kind, script []call) bool {
 	t.Helper()
-	b, m := k.open(t), &model{kind: k}
-	var h history
+	b, m := k.open(t), &model{kind: k, past: make([]call, 0, len(script))}
+	h := make(history, 0, len(script))
 	for n, c := range script {
 		got, why := agree(b, m, c)
 		h = append(h, step{c, got})
