@@ -37,6 +37,11 @@ func cell(c api.Cell) api.Cell {
 	return c
 }
 
+// Part copies what a task hands in, a valid part or not, field by field.
+func Part(p api.Part) api.Part {
+	return api.Part{State: State(p.State), Logs: list(p.Logs, Records), Pend: Records(p.Pend)}
+}
+
 // Delta copies a difference of states, a fit one or not, field by field.
 func Delta(d api.Delta) api.Delta {
 	d.Set = list(d.Set, cell)

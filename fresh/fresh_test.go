@@ -6,7 +6,9 @@ import (
 	"unsafe"
 
 	"eddy/api"
+	"eddy/equal"
 	"eddy/fresh"
+	"eddy/memory"
 )
 
 // lent gives a text in bytes of its own, which can be written over afterwards.
@@ -224,5 +226,45 @@ func TestSpareRoomIsNotKept(t *testing.T) {
 		if items[n].Kind != 0 || loops[n] != 0 {
 			t.Errorf("what is appended to a copy of %d items is seen behind the original", n)
 		}
+	}
+}
+
+// samplePart gives what a task hands in, not a valid part, of what a sampleConfig holds.
+func samplePart() api.Part {
+	c := sampleConfig()
+	return memory.Roomy(api.Part{State: c.States[0], Logs: append(c.Lanes, []api.Record{}), Pend: c.Outs[0]}, lent)
+}
+
+// spoilPart writes over all that hangs on a samplePart, its spare room too.
+func spoilPart(p api.Part) {
+	m := memory.Of(p)
+	for _, text := range m.Texts() {
+		spoilText(text)
+	}
+	m.Scribble()
+}
+
+func TestPart(t *testing.T) {
+	given := samplePart()
+	before := memory.Of(given).Told()
+	got := fresh.Part(given)
+	if !equal.Part(got, given) || memory.Of(given).Told() != before {
+		t.Errorf("the copy of %+v is %+v", given, got)
+	}
+	spoilPart(given)
+	if !equal.Part(got, samplePart()) {
+		t.Errorf("a copy is written over with its original: %+v", got)
+	}
+	given = samplePart()
+	got = fresh.Part(given)
+	spoilPart(got)
+	if memory.Of(given).Told() != before {
+		t.Errorf("an original is written over with its copy: %+v", given)
+	}
+	if got = fresh.Part(samplePart()); !memory.Of(got).Apart() {
+		t.Error("lists of a copy share memory")
+	}
+	if got = fresh.Part(api.Part{}); !reflect.DeepEqual(got, api.Part{}) {
+		t.Errorf("Part gives %+v, want zeros", got)
 	}
 }
