@@ -167,19 +167,10 @@ func TestNilAndEmptyAreTheSame(t *testing.T) {
 	}
 }
 
-// deep gives a value of so many lists around one another.
-func deep(lists int) api.Value {
-	v := api.Value{Kind: api.Int, Int: 7}
-	for range lists {
-		v = api.Value{Kind: api.List, Items: []api.Value{v}}
-	}
-	return v
-}
-
 // TestFarBeyondTheLimits: what isn't valid is carried as it is.
 func TestFarBeyondTheLimits(t *testing.T) {
 	long := strings.Repeat("far beyond", 1000)
-	r := api.Record{Key: long, Val: deep(1<<16 - 2), Loops: make([]int, 5000)}
+	r := api.Record{Key: long, Val: pen.Deep(1<<16 - 2), Loops: make([]int, 5000)}
 	many := slices.Repeat([]api.Record{{Key: "", Val: api.Value{Kind: -5, Int: 1, Text: long, Items: make([]api.Value, 40)}}}, 300)
 	s := api.State{Num: -1, Cells: []api.Cell{{Key: "b", Vals: []api.Value{r.Val}}, {Key: "a"}, {Key: "a", Vals: make([]api.Value, 300)}}}
 	for _, of := range []string{"aligned 2 1", "recorded 2", "overtaking 2"} {

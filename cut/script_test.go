@@ -139,9 +139,9 @@ func (w *writer) lead(k kind, id int) []call {
 	var all []call
 	for _, port := range w.Order(k.ports) {
 		for range w.Below(4) {
-			all = append(all, call{What: "took", Port: w.Below(k.ports), Rec: w.record()})
+			all = append(all, call{What: "took", Port: w.Below(k.ports), Rec: w.Record()})
 		}
-		all = append(all, call{What: "mark", Port: port, Id: id, Ahead: w.records(2), State: w.state(), Pend: w.records(2)})
+		all = append(all, call{What: "mark", Port: port, Id: id, Ahead: w.Records(2), State: w.State(), Pend: w.Records(2)})
 	}
 	return append(all, call{What: "part"})
 }
