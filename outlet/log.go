@@ -1,0 +1,57 @@
+package outlet
+
+import (
+	"strconv"
+
+	"eddy/api"
+	"eddy/frame"
+	"eddy/wire"
+)
+
+// fileName gives the name of a sink's file: its number has two digits.
+func fileName(sink int) string { return "out-" + strconv.Itoa(sink/10) + strconv.Itoa(sink%10) }
+
+// Scan reads a log's bytes: its records in order, and how many bytes they take.
+func Scan(data []byte) ([]api.Record, int) {
+	var records []api.Record
+	size := 0
+	for {
+		row, taken, ok := first(data[size:len(data):len(data)])
+		if !ok || row.At != len(records) {
+			return records, size
+		}
+		records = append(records, row.Rec)
+		size += taken
+	}
+}
+
+// first reads the row at the beginning of a log, and tells the size of its frame.
+func first(log []byte) (api.OutRow, int, bool) {
+	body, size, e := frame.Unwrap(log)
+	if e != api.OK {
+		return api.OutRow{}, 0, false
+	}
+	row, e := wire.GetRow(body)
+	return row, size, e == api.OK
+}
+
+// logOf writes the piece of a log that holds records, the first of which has the number from.
+func logOf(from int, l []api.Record) ([]byte, api.Errno) {
+	var log []byte
+	for k, r := range l {
+		one, e := framed(api.OutRow{At: from + k, Rec: r})
+		if e != api.OK {
+			return nil, e
+		}
+		log = append(log, one...)
+	}
+	return log, api.OK
+}
+
+func framed(row api.OutRow) ([]byte, api.Errno) {
+	body, e := wire.PutRow(row)
+	if e != api.OK {
+		return nil, e
+	}
+	return frame.Wrap(body)
+}
