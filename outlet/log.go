@@ -16,23 +16,23 @@ func Scan(data []byte) ([]api.Record, int) {
 	var records []api.Record
 	size := 0
 	for {
-		row, taken, ok := first(data[size:len(data):len(data)])
+		one, row, ok := first(data[size:])
 		if !ok || row.At != len(records) {
 			return records, size
 		}
 		records = append(records, row.Rec)
-		size += taken
+		size += len(one)
 	}
 }
 
-// first reads the row at the beginning of a log, and tells the size of its frame.
-func first(log []byte) (api.OutRow, int, bool) {
+// first cuts the frame at the beginning of a log out of it, so that nobody can write behind its end, and reads the row in it.
+func first(log []byte) ([]byte, api.OutRow, bool) {
 	body, size, e := frame.Unwrap(log)
 	if e != api.OK {
-		return api.OutRow{}, 0, false
+		return nil, api.OutRow{}, false
 	}
 	row, e := wire.GetRow(body)
-	return row, size, e == api.OK
+	return log[:size:size], row, e == api.OK
 }
 
 // logOf writes the piece of a log that holds records, the first of which has the number from.
