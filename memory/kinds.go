@@ -11,7 +11,7 @@ import (
 func (m *Memory) add(things ...any) {
 	for _, thing := range things {
 		switch x := thing.(type) {
-		case int, api.Edge, api.Event:
+		case int, api.Edge, api.Event, api.Trail:
 		case string:
 			m.texts = append(m.texts, x)
 		case api.Value:
@@ -43,7 +43,7 @@ func (m *Memory) add(things ...any) {
 // roomy copies a thing.
 func roomy(thing any, lend func(string) string) any {
 	switch x := thing.(type) {
-	case int, api.Edge, api.Event:
+	case int, api.Edge, api.Event, api.Trail:
 		return x
 	case string:
 		return lend(x)
@@ -98,6 +98,8 @@ func mark[T any](text string, number int) T {
 		*x = api.Edge{From: number, Out: number, To: number, In: number}
 	case *api.Event:
 		*x = api.Event{Task: number, Port: number}
+	case *api.Trail:
+		*x = api.Trail{Kind: number, Task: number, Port: number, Id: number}
 	}
 	return thing
 }
@@ -127,6 +129,8 @@ func flat(thing any) string {
 		return words(flat(x.From), flat(x.Out), flat(x.To), flat(x.In))
 	case api.Event:
 		return words(flat(x.Task), flat(x.Port))
+	case api.Trail:
+		return words(flat(x.Kind), flat(x.Task), flat(x.Port), flat(x.Id))
 	}
 	return ""
 }

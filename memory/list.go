@@ -76,6 +76,8 @@ func asList(thing any) list {
 		return listOf[api.Edge](x)
 	case []api.Event:
 		return listOf[api.Event](x)
+	case []api.Trail:
+		return listOf[api.Trail](x)
 	}
 	panic("memory: a thing of an unknown type")
 }

@@ -31,6 +31,7 @@ func samples() []any {
 	task := api.Task{Name: "m", Kind: api.Map, Num: 2, Exprs: []string{"key", "val"}}
 	return []any{5, "text", value("v"), record("r"), state("s"), part("p"), state("s").Cells, state("s").Cells[0], task,
 		api.Event{Task: 1, Port: 2}, []api.Event{{Task: 1, Port: 2}, {}}, api.Edge{From: 1, Out: 2, To: 3, In: 4},
+		api.Trail{Kind: 1, Task: 2, Port: 3, Id: 4}, []api.Trail{{Kind: 1, Task: 2, Port: 3, Id: 4}, {}},
 		api.Shot{Id: 3, Sum: 4, Parts: []api.Part{part("x"), part("y")}},
 		api.Config{States: []api.State{state("s")}, Lanes: [][]api.Record{{record("l")}}, Outs: [][]api.Record{{record("o")}}},
 		api.Plan{Cap: 2, Tasks: []api.Task{task}, Edges: []api.Edge{{From: 1, Out: 2, To: 3, In: 4}, {}}}}

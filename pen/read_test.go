@@ -58,3 +58,34 @@ func TestWhatCantBeRead(t *testing.T) {
 		}()
 	}
 }
+
+// TestTell: what is told is read as the same thing.
+func TestTell(t *testing.T) {
+	for _, text := range []string{"a=1", "b=[1, none]@0@3", "=none", `c="x"@9`} {
+		if got := pen.TellRecord(pen.ReadRecord(text)); got != text {
+			t.Errorf("the record %q is told as %q", text, got)
+		}
+	}
+	for _, text := range []string{"", "a=1", "a=1 | b=2@0 | a=1"} {
+		if got := pen.TellRecords(pen.ReadRecords(text)); got != text {
+			t.Errorf("the records %q are told as %q", text, got)
+		}
+	}
+	for _, text := range []string{"", "a=1 / b=2 | c=3", " /  / a=1"} {
+		if got := pen.TellLists(pen.ReadLists(text)); got != text {
+			t.Errorf("the lists %q are told as %q", text, got)
+		}
+	}
+	for _, text := range []string{"7", "0; a:[5, none]; b:[]; c:[[[[1]]]]"} {
+		state := api.State{Cells: []api.Cell{{Key: "a", Vals: []api.Value{pen.ReadValue("5"), {}}}, {Key: "b"}, {Key: "c", Vals: []api.Value{pen.ReadValue("[[[1]]]")}}}}
+		if text == "7" {
+			state = pen.ReadState(text)
+		}
+		if got := pen.TellState(state); got != text {
+			t.Errorf("the state %q is told as %q", text, got)
+		}
+	}
+	if got, want := pen.TellConfig(pen.ReadConfig("1 / 0; a:[5]", "a=1 / b=2 | c=3", "d=4")), "1 / 0; a:[5] # a=1 / b=2 | c=3 # d=4"; got != want {
+		t.Errorf("the configuration %q is told as %q", want, got)
+	}
+}
