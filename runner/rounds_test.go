@@ -12,10 +12,13 @@ import (
 )
 
 // An order gives the steps of a fair round in some order.
-type order func(steps []call) []call
+type order struct {
+	name string
+	of   func(steps []call) []call
+}
 
-// orders gives some: the drawn one is another one each time; against the stream nothing comes far in a round, with it much does.
-func (k kind) orders(w *writer) map[string]order {
+// orders gives some, in a list, so that a seed draws the same each time: the drawn one is another one in each round; against the stream nothing comes far in a round, with it much does.
+func (k kind) orders(w *writer) []order {
 	sh, _, _ := shape.Build(k.plan)
 	place := func(c call) int { return slices.Index(sh.Order, c.Task) }
 	along := func(steps []call, way int) []call {
@@ -23,16 +26,17 @@ func (k kind) orders(w *writer) map[string]order {
 		slices.SortStableFunc(all, func(a, b call) int { return way * (place(a) - place(b)) })
 		return all
 	}
-	return map[string]order{
-		"drawn": func(steps []call) []call {
-			var all []call
-			for _, n := range w.Order(len(steps)) {
-				all = append(all, steps[n])
-			}
-			return all
-		},
-		"with the stream":    func(steps []call) []call { return along(steps, 1) },
-		"against the stream": func(steps []call) []call { return along(steps, -1) },
+	drawn := func(steps []call) []call {
+		var all []call
+		for _, n := range w.Order(len(steps)) {
+			all = append(all, steps[n])
+		}
+		return all
+	}
+	return []order{
+		{"drawn", drawn},
+		{"with the stream", func(steps []call) []call { return along(steps, 1) }},
+		{"against the stream", func(steps []call) []call { return along(steps, -1) }},
 	}
 }
 
@@ -98,15 +102,28 @@ func (w *watch) shootAtRest(t *testing.T) {
 	}
 }
 
+// movesWithoutMarkers fails the test where a run that is left would come to rest in the marker-free system. Two loops that cross, so that each tail leads back to the other's head, may let a record go round for very long: then it is the plan that moves, and not the markers.
+func (w *watch) movesWithoutMarkers(t *testing.T) {
+	t.Helper()
+	c := w.run.Config()
+	for n := range 1000 {
+		l := w.flow.Enabled(c)
+		if len(l) == 0 {
+			t.Fatalf("%v: the rounds don't come to rest, and the marker-free system does so behind %d events", w, n)
+		}
+		c, _ = w.flow.Step(c, l[n%len(l)])
+	}
+}
+
 // TestRoundsUntilNothingMoves: from drawn configurations with snapshots under way, given up and none; in any order.
 func TestRoundsUntilNothingMoves(t *testing.T) {
-	met := map[string]int{}
+	met, left := map[string]int{}, 0
 	for seed := range 450 {
 		d := seeded(seed)
 		k := d.kind()
 		k.tapes = d.Tapes(k.plan, 3)
 		k.start = d.Config(k.plan, k.tapes, pen.One(d.Pen, 0, 1, 3))
-		for name, order := range k.orders(d) {
+		for _, in := range k.orders(d) {
 			w := k.watch(t)
 			for _, c := range d.script(k, pen.One(d.Pen, 0, 10, 40)) {
 				if _, why := w.does(c); why != "" {
@@ -114,26 +131,31 @@ func TestRoundsUntilNothingMoves(t *testing.T) {
 				}
 			}
 			under, _ := w.run.Under()
-			// Tees within loops make so many records of one that not all can be waited for.
-			for len(w.past) < 2500 {
-				if w.round(t, d.posted(order(w.model.picks()))) {
-					continue
-				}
-				if why := w.restFault(); why != "" {
-					t.Fatalf("P16.15: %v: nothing moves any more in the order %q, and %s", w, name, why)
-				}
-				w.shootAtRest(t)
-				met[fmt.Sprint("mode ", k.mode, ", order ", name)]++
-				met[fmt.Sprint("mode ", k.mode, ", one was under way: ", under != 0)]++
-				break
+			moved := true
+			for moved && len(w.past) < 2500 {
+				moved = w.round(t, d.posted(in.of(w.model.picks())))
 			}
+			if moved {
+				left++
+				w.movesWithoutMarkers(t)
+				continue
+			}
+			if why := w.restFault(); why != "" {
+				t.Fatalf("P16.15: %v: nothing moves any more in the order %q, and %s", w, in.name, why)
+			}
+			w.shootAtRest(t)
+			met[fmt.Sprint("mode ", k.mode, ", order ", in.name)]++
+			met[fmt.Sprint("mode ", k.mode, ", one was under way: ", under != 0)]++
 		}
 	}
 	for mode := 1; mode <= 3; mode++ {
-		for name := range (kind{plan: line()}).orders(nil) {
-			wantCases(t, met, 100, fmt.Sprint("mode ", mode, ", order ", name))
+		for _, in := range (kind{plan: line()}).orders(nil) {
+			wantCases(t, met, 100, fmt.Sprint("mode ", mode, ", order ", in.name))
 		}
 		wantCases(t, met, 100, fmt.Sprint("mode ", mode, ", one was under way: true"), fmt.Sprint("mode ", mode, ", one was under way: false"))
+	}
+	if left > 10 {
+		t.Errorf("%d runs are left before they come to rest", left)
 	}
 }
 
@@ -162,7 +184,7 @@ func (d *writer) giveUp(w twin, count int) {
 // readyIn tells in which of so many fair rounds a snapshot gets ready; 0: in none. Beside them other picks may be made.
 func (d *writer) readyIn(w twin, id, most int, in order, beside bool) int {
 	for round := range most {
-		for _, c := range d.posted(in(w.picks())) {
+		for _, c := range d.posted(in.of(w.picks())) {
 			for beside && d.Below(3) == 0 {
 				w.does(d.pick(w.model))
 			}
@@ -207,7 +229,7 @@ func TestReadyInTime(t *testing.T) {
 		k.start = d.Config(k.plan, k.tapes, pen.One(d.Pen, 0, 3, 10))
 		aborts, beside := pen.One(d.Pen, 0, 0, 1, 2, 5, 20), d.Below(2) == 0
 		given[aborts]++
-		for name, in := range k.orders(d) {
+		for _, in := range k.orders(d) {
 			w := twin{k.open(t), k.model()}
 			d.giveUp(w, aborts)
 			a := w.does(call{What: "trigger"})
@@ -220,7 +242,7 @@ func TestReadyInTime(t *testing.T) {
 				}
 			}
 			if most := 2*len(k.plan.Tasks) + aborts + 1; d.readyIn(w, a.Number, most, in, beside) == 0 {
-				t.Fatalf("P16.16: %v: %d isn't ready behind %d fair rounds in the order %q, with %d snapshots given up before", k, a.Number, most, name, aborts)
+				t.Fatalf("P16.16: %v: %d isn't ready behind %d fair rounds in the order %q, with %d snapshots given up before", k, a.Number, most, in.name, aborts)
 			}
 		}
 	}
