@@ -33,19 +33,13 @@ func (s *sheet) plan(p api.Plan) {
 	for _, t := range p.Tasks {
 		s.numbers("task "+t.Name, t.Kind, t.Num)
 		for _, text := range t.Exprs {
-			s.expr(text)
+			// Of an expression that has a fault, which no valid plan has, there is no Canon: it is empty.
+			canon, _ := expr.Canon(text)
+			s.line("expr", canon)
 		}
 	}
 	for _, e := range p.Edges {
 		s.numbers("edge", e.From, e.Out, e.To, e.In)
-	}
-}
-
-// expr writes an expression. One that has a fault stands in no valid plan, and nothing is written of it.
-func (s *sheet) expr(text string) {
-	canon, err := expr.Canon(text)
-	if err == nil {
-		s.line("expr", canon)
 	}
 }
 
