@@ -153,37 +153,6 @@ func shotTold(s api.Shot) string {
 	return text
 }
 
-// entryTold writes an entry of a trail: what it has by its kind, and all of it, if another field isn't 0.
-func entryTold(e api.Trail) string {
-	words := []string{"", "step", "mark", "copy", "part", "trigger", "ready", "complete", "abort"}
-	if e.Kind < 1 || e.Kind >= len(words) {
-		return fmt.Sprint(e)
-	}
-	text, left := words[e.Kind], e
-	switch e.Kind {
-	case api.TrailStep:
-		text, left.Task, left.Port = fmt.Sprint(text, " ", e.Task, ".", e.Port), 0, 0
-	case api.TrailMark:
-		text, left.Task, left.Port, left.Id = fmt.Sprint(text, " ", e.Task, ".", e.Port, " ", e.Id), 0, 0, 0
-	case api.TrailCopy, api.TrailPart:
-		text, left.Task, left.Id = fmt.Sprint(text, " ", e.Task, " ", e.Id), 0, 0
-	default:
-		text, left.Id = fmt.Sprint(text, " ", e.Id), 0
-	}
-	if left != (api.Trail{Kind: e.Kind}) {
-		text += fmt.Sprint(" ", e)
-	}
-	return text
-}
-
-func trailTold(l []api.Trail) string {
-	var all []string
-	for _, e := range l {
-		all = append(all, entryTold(e))
-	}
-	return strings.Join(all, ", ")
-}
-
 // told writes the answer of a call, so much of it as the call has.
 func (c call) told(a answer) string {
 	switch c.What {
@@ -200,7 +169,7 @@ func (c call) told(a answer) string {
 	case "config":
 		return pen.TellConfig(a.Config)
 	case "trail":
-		return trailTold(a.Trail)
+		return pen.TellTrail(a.Trail)
 	}
 	if a.Err == api.OK {
 		return strconv.Itoa(a.Number)
@@ -358,7 +327,7 @@ func TestHelp(t *testing.T) {
 		{"under", "7 0 2", answer{Number: 7, Tasks: []int{0, 2}}}, {"settle 1 no", "not ready", answer{Err: api.ErrPostReady}}, {"settle 1 no", "error 131", answer{Err: 131}},
 		{"config", "1 / 0 # a=1 # b=2 | c=3", answer{Config: pen.ReadConfig("1 / 0", "a=1", "b=2 | c=3")}},
 		{"trail", "step 2.3, mark 2.3 4, copy 2 4, part 2 4, trigger 4, ready 4, abort 4", answer{Trail: entries}},
-		{"trail", "step 0.0 {1 0 0 5}, trigger 1 {5 0 2 1}, {9 1 2 3}", answer{Trail: []api.Trail{{Kind: 1, Id: 5}, {Kind: 5, Port: 2, Id: 1}, {Kind: 9, Task: 1, Port: 2, Id: 3}}}},
+		{"trail", "{1 0 0 5}, {5 0 2 1}, {9 1 2 3}", answer{Trail: []api.Trail{{Kind: 1, Id: 5}, {Kind: 5, Port: 2, Id: 1}, {Kind: 9, Task: 1, Port: 2, Id: 3}}}},
 	} {
 		if got := called(x.call).told(x.answer); got != x.want {
 			t.Errorf("the answer %+v of %s is told as %q, want %q", x.answer, x.call, got, x.want)

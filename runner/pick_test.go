@@ -20,7 +20,7 @@ func TestNoSuchTaskOrPort(t *testing.T) {
 				called(c).of(r)
 				called(c).of(m)
 			}
-			config, trail := r.Config(), trailTold(r.Trail())
+			config, trail := r.Config(), pen.TellTrail(r.Trail())
 			for _, task := range numbers {
 				for _, port := range numbers {
 					there := task >= 0 && task < len(plan.Tasks) && port >= 0 && port < m.ports(task)
@@ -32,7 +32,7 @@ func TestNoSuchTaskOrPort(t *testing.T) {
 					}
 				}
 			}
-			if !equal.Config(r.Config(), config) || trailTold(r.Trail()) != trail {
+			if !equal.Config(r.Config(), config) || pen.TellTrail(r.Trail()) != trail {
 				t.Errorf("P16.3.1: %v: a pick of no port changes something", k)
 			}
 		}

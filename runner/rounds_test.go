@@ -94,7 +94,7 @@ func (w *watch) shootAtRest(t *testing.T) {
 	}
 	for _, e := range w.run.Trail()[trail:] {
 		if e.Id != id {
-			t.Fatalf("P16.15: %v: behind a rest the trail goes on with %s", w, entryTold(e))
+			t.Fatalf("P16.15: %v: behind a rest the trail goes on with %s", w, pen.TellTrail([]api.Trail{e}))
 		}
 	}
 	if l := w.run.Trail(); l[len(l)-1] != (api.Trail{Kind: api.TrailReady, Id: id}) {

@@ -92,7 +92,7 @@ func (k kind) shoot(t *testing.T, r machine) api.Shot {
 	t.Helper()
 	trail := len(r.Trail())
 	if k.rounds(r, 1); len(r.Trail()) > trail {
-		t.Fatalf("%v: the lanes aren't empty: %s", k, trailTold(r.Trail()[trail:]))
+		t.Fatalf("%v: the lanes aren't empty: %s", k, pen.TellTrail(r.Trail()[trail:]))
 	}
 	r.Trigger()
 	k.rounds(r, len(k.plan.Tasks)+1)
@@ -181,7 +181,7 @@ func TestCommitTouchesNothingElse(t *testing.T) {
 			for n := range got.Shot.Parts {
 				got.Shot.Parts[n].Pend, want.Shot.Parts[n].Pend = nil, nil
 			}
-			if !same(got, want) || !equal.Config(r.Config(), other.Config()) || trailTold(r.Trail()) != trailTold(other.Trail()) {
+			if !same(got, want) || !equal.Config(r.Config(), other.Config()) || pen.TellTrail(r.Trail()) != pen.TellTrail(other.Trail()) {
 				t.Fatalf("P16.10: %v: with commits between, %v answers %s, without them %s, or another thing is told behind it", k, c, c.told(got), c.told(want))
 			}
 		}
