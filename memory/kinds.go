@@ -11,7 +11,7 @@ import (
 func (m *Memory) add(things ...any) {
 	for _, thing := range things {
 		switch x := thing.(type) {
-		case int, api.Edge, api.Event, api.Trail:
+		case int, byte, api.Edge, api.Event, api.Trail:
 		case string:
 			m.texts = append(m.texts, x)
 		case api.Value:
@@ -32,6 +32,10 @@ func (m *Memory) add(things ...any) {
 			m.add(x.Name, x.Exprs)
 		case api.Plan:
 			m.add(x.Tasks, x.Edges)
+		case api.File:
+			m.add(x.Name, x.Data)
+		case api.Op:
+			m.add(x.Keep)
 		default:
 			l := asList(x)
 			l.items(m)
@@ -43,7 +47,7 @@ func (m *Memory) add(things ...any) {
 // roomy copies a thing.
 func roomy(thing any, lend func(string) string) any {
 	switch x := thing.(type) {
-	case int, api.Edge, api.Event, api.Trail:
+	case int, byte, api.Edge, api.Event, api.Trail:
 		return x
 	case string:
 		return lend(x)
@@ -68,16 +72,23 @@ func roomy(thing any, lend func(string) string) any {
 		return x
 	case api.Plan:
 		return api.Plan{Cap: x.Cap, Tasks: Roomy(x.Tasks, lend), Edges: Roomy(x.Edges, lend)}
+	case api.File:
+		return api.File{Name: lend(x.Name), Data: Roomy(x.Data, lend), Synced: x.Synced}
+	case api.Op:
+		x.Keep = Roomy(x.Keep, lend)
+		return x
 	}
 	return asList(thing).roomy(lend)
 }
 
-// mark gives a thing that tells a text or a number.
+// mark gives a thing that tells a text or a number; a byte tells the lowest bits of the number alone.
 func mark[T any](text string, number int) T {
 	var thing T
 	switch x := any(&thing).(type) {
 	case *int:
 		*x = number
+	case *byte:
+		*x = byte(number)
 	case *string:
 		*x = text
 	case *api.Value:
@@ -100,6 +111,10 @@ func mark[T any](text string, number int) T {
 		*x = api.Event{Task: number, Port: number}
 	case *api.Trail:
 		*x = api.Trail{Kind: number, Task: number, Port: number, Id: number}
+	case *api.File:
+		*x = api.File{Name: text, Synced: number}
+	case *api.Op:
+		*x = api.Op{Kind: number, A: number, B: number}
 	}
 	return thing
 }
@@ -109,6 +124,8 @@ func flat(thing any) string {
 	switch x := thing.(type) {
 	case int:
 		return strconv.Itoa(x)
+	case byte:
+		return strconv.Itoa(int(x))
 	case string:
 		return strconv.Quote(x)
 	case api.Value:
@@ -131,6 +148,10 @@ func flat(thing any) string {
 		return words(flat(x.Task), flat(x.Port))
 	case api.Trail:
 		return words(flat(x.Kind), flat(x.Task), flat(x.Port), flat(x.Id))
+	case api.File:
+		return words(flat(x.Name), flat(len(x.Data)), flat(x.Synced))
+	case api.Op:
+		return words(flat(x.Kind), flat(x.A), flat(x.B), flat(len(x.Keep)))
 	}
 	return ""
 }

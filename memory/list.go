@@ -56,6 +56,8 @@ func asList(thing any) list {
 	switch x := thing.(type) {
 	case []int:
 		return listOf[int](x)
+	case []byte:
+		return listOf[byte](x)
 	case []string:
 		return listOf[string](x)
 	case []api.Value:
@@ -78,6 +80,10 @@ func asList(thing any) list {
 		return listOf[api.Event](x)
 	case []api.Trail:
 		return listOf[api.Trail](x)
+	case []api.File:
+		return listOf[api.File](x)
+	case []api.Op:
+		return listOf[api.Op](x)
 	}
 	panic("memory: a thing of an unknown type")
 }

@@ -34,7 +34,9 @@ func samples() []any {
 		api.Trail{Kind: 1, Task: 2, Port: 3, Id: 4}, []api.Trail{{Kind: 1, Task: 2, Port: 3, Id: 4}, {}},
 		api.Shot{Id: 3, Sum: 4, Parts: []api.Part{part("x"), part("y")}},
 		api.Config{States: []api.State{state("s")}, Lanes: [][]api.Record{{record("l")}}, Outs: [][]api.Record{{record("o")}}},
-		api.Plan{Cap: 2, Tasks: []api.Task{task}, Edges: []api.Edge{{From: 1, Out: 2, To: 3, In: 4}, {}}}}
+		api.Plan{Cap: 2, Tasks: []api.Task{task}, Edges: []api.Edge{{From: 1, Out: 2, To: 3, In: 4}, {}}},
+		api.File{Name: "f", Data: []byte{1, 2}, Synced: 1}, []api.File{{Name: "f", Data: []byte{0, 255}, Synced: 2}, {Name: "g", Data: []byte{7}}},
+		api.Op{Kind: 9, A: 1, B: 2, Keep: []int{3, -1}}, []api.Op{{Kind: 9, Keep: []int{3}}, {Kind: 1, A: 4, B: 5, Keep: []int{0}}}}
 }
 
 // lists gives all lists that hang on a thing, as they are found by their types, the inner ones first; and how many texts.
@@ -131,6 +133,8 @@ func changes(v reflect.Value, see func()) {
 		v.SetString(v.String() + "!")
 	case reflect.Slice:
 		v.Set(reflect.Append(v.Slice3(0, v.Len(), v.Len()), reflect.Zero(v.Type().Elem())))
+	case reflect.Uint8:
+		v.SetUint(v.Uint() ^ 1)
 	default:
 		v.SetInt(v.Int() + 1)
 	}
