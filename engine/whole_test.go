@@ -308,3 +308,68 @@ func TestSame(t *testing.T) {
 	}
 	wantCases(t, met, 200, "output: true", "several lives: true", "several lives: false")
 }
+
+// great gives two sources whose records, once their values are made as great as a value may be, come to one sink.
+func great(count int) ground {
+	tape := strings.TrimSuffix(strings.Repeat("twelve bytes=\"a text of 24 bytes, just\" | ", count), " | ")
+	return reads(8, tape+" / "+tape, "a source 0", "b source 1", "u union", "m map key ; [val,val,val,val,val,[val,val,val,val,val]]", "k sink", "a.0 u.0", "b.0 u.1", "u.0 m.0", "m.0 k.0")
+}
+
+// TestGreatParts: a part of 80 records is stored, however great they are; one that can't be is given up alone, and smaller ones go on.
+func TestGreatParts(t *testing.T) {
+	let := "pick 0 0; pick 2 0; pick 3 0; pick 4 0; pick 1 0; pick 2 1; pick 3 0; pick 4 0"
+	take := "trigger; pick 0 0; pick 1 0; pick 2 0; pick 2 1; pick 3 0; pick 4 0; post; post; post; post; post"
+	for mode := 1; mode <= 3; mode++ {
+		w := great(40).in(mode).watch(great(40).in(mode).open(t), map[string]int{})
+		for _, op := range opsOf("repeat 40;" + let + "; end;" + take) {
+			w.step(t, op)
+		}
+		if s, l := w.e.Status(), w.e.Committed(); s.Last != 1 || len(l[0]) != 80 || !w.isSmall(w.shots[1]) {
+			t.Errorf("P20.7: mode %d: 80 records: the status is %s, %d records are committed", mode, statusTold(s), len(l[0]))
+		}
+	}
+	inModes(t, "P19.4, P20.5", great(60), "repeat 60;"+let+"; end;"+take, "status = up next 2 aborts 1", "files =", "outs =", take, "status = up next 3 aborts 2",
+		"crash; recover -> 11 12", "repeat 30;"+let+"; end;"+take, "status = up last 1 next 2", "repeat 30;"+let+"; end;"+take, "status = up last 2 next 3")
+}
+
+// TestChains: states of many cells are stored as differences; whatever falls and fails, the shots that need one another are kept, and are right.
+func TestChains(t *testing.T) {
+	met, chained := map[string]int{}, 0
+	for seed := range 12 {
+		d := seeded(5000 + seed)
+		d.calls = 60
+		var tape []api.Record
+		for n := range 60 {
+			tape = append(tape, api.Record{Key: fmt.Sprint("k", n%25), Val: api.Value{Kind: api.Int, Int: int64(n)}})
+		}
+		p := pen.ReadPlan("s source 0", "f fold 0 ; acc+val", "w window 3", "e tee", "j join", "k sink", "s.0 e.0", "e.0 f.0", "e.1 w.0", "f.0 j.0", "w.0 j.1", "j.0 k.0")
+		p.Cap = 4
+		g := on(p, [][]api.Record{tape}).in(seed%3 + 1)
+		w := g.watch(g.open(t), met)
+		d.at(g)
+		for range 14 {
+			w.plays(t, d, 30)
+			if !w.e.Status().Up {
+				continue
+			}
+			if w.begins(t, d, 0); w.readyIn(t, d, 60) == 0 {
+				t.Fatalf("P20.4: %v: it isn't ready behind 60 rounds", w)
+			}
+			ids := map[string]bool{}
+			for _, f := range w.e.Files() {
+				if strings.HasPrefix(f.Name, "seg-") {
+					ids[f.Name[4:8]] = true
+				}
+			}
+			if len(ids) > 3 && !w.rigged {
+				chained++
+			}
+		}
+		if why := w.lineFault(); why != "" {
+			t.Fatalf("%v: %s", w, why)
+		}
+	}
+	if chained < 20 {
+		t.Errorf("P12.3: segments of shots that others alone need are there %d times, want 20", chained)
+	}
+}
