@@ -316,3 +316,28 @@ func TestAFileOfAnAnswerIsNoFileOfTheDisk(t *testing.T) {
 		t.Errorf("%s: behind files that were written over: %s", rules, got)
 	}
 }
+
+// TestPlayKeepsNothing: what Play is handed stays as it is, and what it answered stands when all of that is written over.
+func TestPlayKeepsNothing(t *testing.T) {
+	for seed := range 20 {
+		w := seeded(seed)
+		g := w.ground()
+		script := "pick 0 0\ntrigger\nrepeat 60\n"
+		for _, op := range w.at(g).picks {
+			script += opTold(op) + "\n"
+		}
+		script += "post\nend\ncrash\nrecover 1\n"
+		want, err := engine.Play(g.text, script, g.mode, g.tapes...)
+		given := g.roomy()
+		before, steps := given.handed().Told(), lent(script)
+		got, again := engine.Play(given.text, steps, given.mode, given.tapes...)
+		if err != nil || again != nil || given.handed().Told() != before || steps != script || given.text != g.text {
+			t.Fatalf("%s: %v: Play answers %v, %v, or changes what it is handed", rules, g, err, again)
+		}
+		given.writeOver()
+		pen.Fill([][]byte{unsafe.Slice(unsafe.StringData(steps), len(steps))}, '#')
+		if got != want {
+			t.Fatalf("%s: %v: Play answers %q, want %q, behind texts that were written over", rules, g, got, want)
+		}
+	}
+}
