@@ -2,7 +2,6 @@ package engine
 
 import (
 	"errors"
-	"strconv"
 
 	"eddy/api"
 )
@@ -68,9 +67,6 @@ func (e *Engine) prune() {
 		e.fall()
 	}
 }
-
-// logName is the name of a sink's output log: its number has two digits.
-func logName(sink int) string { return "out-" + strconv.Itoa(sink/10) + strconv.Itoa(sink%10) }
 
 // sureOf gives the sure bytes of a file; none, if there is no such file.
 func sureOf(files []api.File, name string) []byte {

@@ -54,6 +54,18 @@ func Config(c api.Config) api.Config {
 	return api.Config{States: list(c.States, State), Lanes: list(c.Lanes, Records), Outs: list(c.Outs, Records)}
 }
 
+// Plan copies a plan, a valid one or not, field by field.
+func Plan(p api.Plan) api.Plan {
+	return api.Plan{Cap: p.Cap, Tasks: list(p.Tasks, Task), Edges: append([]api.Edge(nil), p.Edges...)}
+}
+
+// Task copies a task, one that a plan may have or not, field by field.
+func Task(t api.Task) api.Task {
+	t.Name = strings.Clone(t.Name)
+	t.Exprs = list(t.Exprs, strings.Clone)
+	return t
+}
+
 // list copies a list, each item as one copies it; an empty one gives nil, since its spare room is not to be kept.
 func list[T any](items []T, one func(T) T) []T {
 	if len(items) == 0 {

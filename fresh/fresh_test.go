@@ -1,6 +1,7 @@
 package fresh_test
 
 import (
+	"fmt"
 	"reflect"
 	"testing"
 	"unsafe"
@@ -266,5 +267,44 @@ func TestPart(t *testing.T) {
 	}
 	if got = fresh.Part(api.Part{}); !reflect.DeepEqual(got, api.Part{}) {
 		t.Errorf("Part gives %+v, want zeros", got)
+	}
+}
+
+// samplePlan gives a plan, not a valid one, in which all fields are filled and every list has spare room.
+func samplePlan() api.Plan {
+	return memory.Roomy(api.Plan{
+		Cap:   -3,
+		Tasks: []api.Task{{Name: "a", Kind: 99, Num: -1, Exprs: []string{"no (expr", ""}}, {}, {Name: "a", Exprs: []string{}}},
+		Edges: []api.Edge{{From: 1, Out: 2, To: 3, In: 4}, {From: -1}},
+	}, lent)
+}
+
+func TestPlan(t *testing.T) {
+	given := samplePlan()
+	before := memory.Of(given).Told()
+	got, task := fresh.Plan(given), fresh.Task(given.Tasks[0])
+	tell := func(p api.Plan) string { return fmt.Sprintf("%v", p) }
+	if tell(got) != tell(samplePlan()) || !reflect.DeepEqual(task, samplePlan().Tasks[0]) || memory.Of(given).Told() != before {
+		t.Errorf("the copy of %+v is %+v, that of its first task %+v", given, got, task)
+	}
+	m := memory.Of(given)
+	for _, text := range m.Texts() {
+		spoilText(text)
+	}
+	m.Scribble()
+	if tell(got) != tell(samplePlan()) || !reflect.DeepEqual(task, samplePlan().Tasks[0]) {
+		t.Errorf("a copy is written over with its original: %+v, %+v", got, task)
+	}
+	given = samplePlan()
+	m = memory.Of(fresh.Plan(given), fresh.Task(given.Tasks[0]))
+	m.Scribble()
+	if memory.Of(given).Told() != before {
+		t.Errorf("an original is written over with its copy: %+v", given)
+	}
+	if !memory.Of(fresh.Plan(given), fresh.Plan(given), given).Apart() {
+		t.Error("lists of copies share memory")
+	}
+	if got = fresh.Plan(api.Plan{}); !reflect.DeepEqual(got, api.Plan{}) {
+		t.Errorf("Plan gives %+v, want zeros", got)
 	}
 }

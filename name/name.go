@@ -1,7 +1,8 @@
-// Package name: what the name of a task may be.
+// Package name: what the name of a task may be, and how the file of a sink is called.
 package name
 
 import (
+	"strconv"
 	"strings"
 
 	"eddy/api"
@@ -19,3 +20,6 @@ func Fits(s string) bool {
 	}
 	return strings.IndexByte(letters, s[0]) >= 0
 }
+
+// OfLog gives the name of the file that holds the output log of a sink with this task number, which has two digits.
+func OfLog(sink int) string { return "out-" + strconv.Itoa(sink/10) + strconv.Itoa(sink%10) }

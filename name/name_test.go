@@ -35,3 +35,11 @@ func TestEveryByte(t *testing.T) {
 		}
 	}
 }
+
+func TestOfLog(t *testing.T) {
+	for sink, want := range map[int]string{0: "out-00", 1: "out-01", 9: "out-09", 10: "out-10", 11: "out-11"} {
+		if got := name.OfLog(sink); got != want {
+			t.Errorf("OfLog(%d) is %q, want %q", sink, got, want)
+		}
+	}
+}

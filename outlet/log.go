@@ -1,15 +1,10 @@
 package outlet
 
 import (
-	"strconv"
-
 	"eddy/api"
 	"eddy/frame"
 	"eddy/wire"
 )
-
-// fileName gives the name of a sink's file: its number has two digits.
-func fileName(sink int) string { return "out-" + strconv.Itoa(sink/10) + strconv.Itoa(sink%10) }
 
 // Scan reads a log's bytes: its records in order, and how many bytes they take.
 func Scan(data []byte) ([]api.Record, int) {
