@@ -2,7 +2,6 @@ package engine_test
 
 import (
 	"fmt"
-	"slices"
 	"testing"
 
 	"eddy/api"
@@ -10,17 +9,10 @@ import (
 	"eddy/plan"
 )
 
-// A writer draws grounds, and steps in bursts: what is left of one stands in queue.
-type writer struct {
-	*pen.Pen
-	picks []api.Op // all that a fair round has, with the stream
-	tasks int
-	queue []api.Op
-	calls int // how many steps between two that let something go wrong, on the whole
-	spoil bool
-}
+// A writer draws grounds, and steps for them.
+type writer struct{ *pen.Steps }
 
-func seeded(seed int) *writer { return &writer{Pen: pen.Seeded(seed), calls: 60} }
+func seeded(seed int) *writer { return &writer{pen.SeededSteps(seed)} }
 
 // ground draws a plan with tapes and a mode, over an empty disk.
 func (w *writer) ground() ground {
@@ -49,108 +41,9 @@ func (w *writer) groundOf(p api.Plan) ground {
 
 // at gets the writer ready for a ground.
 func (w *writer) at(g ground) *writer {
-	p, sh, _, _ := g.parts()
-	w.picks, w.queue, w.tasks = nil, nil, len(p.Tasks)
-	for _, task := range sh.Order {
-		for port := range max(1, len(sh.Ins[task])) {
-			w.picks = append(w.picks, api.Op{Kind: api.OpPick, A: task, B: port})
-		}
-	}
+	_, sh, _, _ := g.parts()
+	w.At(sh)
 	return w
-}
-
-// round draws a fair round: with the stream, against it, or in any order; the post anywhere in it.
-func (w *writer) round() []api.Op {
-	var all []api.Op
-	switch w.Below(3) {
-	case 0:
-		all = append(all, w.picks...)
-	case 1:
-		for n := range w.picks {
-			all = append(all, w.picks[len(w.picks)-1-n])
-		}
-	default:
-		for _, n := range w.Order(len(w.picks)) {
-			all = append(all, w.picks[n])
-		}
-	}
-	at := pen.One(w.Pen, 0, len(all), w.Below(len(all)))
-	return append(append(append([]api.Op(nil), all[:at]...), api.Op{Kind: api.OpPost}), all[at:]...)
-}
-
-// keep draws what survives of a fall.
-func (w *writer) keep() []int {
-	var all []int
-	if w.Below(3) == 0 {
-		return []int{9999}
-	}
-	for range w.Below(4) {
-		all = append(all, pen.One(w.Pen, 0, 9999, w.Below(60), -1, 9999))
-	}
-	return all
-}
-
-// wrong draws a step that lets something go wrong.
-func (w *writer) wrong() api.Op {
-	switch n := w.Below(10); {
-	case n < 3:
-		return api.Op{Kind: api.OpCrash}
-	case n < 6:
-		return api.Op{Kind: api.OpArm, A: pen.One(w.Pen, 0, w.Below(30), w.Below(200), w.Below(500))}
-	case n < 9 || !w.spoil:
-		// The last call of a save is the Sync of its manifest.
-		return api.Op{Kind: api.OpFail, A: pen.One(w.Pen, 1, 1, 1, 2, 5), B: pen.One(w.Pen, 0, w.Below(8), w.Below(40), 2*w.tasks+1, 2*w.tasks+1)}
-	}
-	return api.Op{Kind: api.OpSpoil, A: w.Below(30), B: w.Below(200)}
-}
-
-// burst draws steps of a machine that is up.
-func (w *writer) burst(s api.Status) []api.Op {
-	if w.Below(w.calls/8+1) == 0 {
-		return []api.Op{w.wrong()}
-	}
-	switch n := w.Below(20); {
-	case n < 4 && s.Under == 0 || n == 0:
-		return []api.Op{{Kind: api.OpTrigger}}
-	case n < 7 && s.Under != 0:
-		all := make([]api.Op, w.Below(w.tasks+2))
-		for k := range all {
-			all[k].Kind = api.OpPost
-		}
-		return all
-	case n == 7 && w.Below(6) == 0:
-		return []api.Op{{Kind: api.OpAbort}}
-	case n == 8 && w.Below(4) == 0:
-		return []api.Op{{Kind: w.Below(12) - 1, A: w.Between(-2, 3), B: w.Between(-2, 3)}}
-	case n < 14:
-		return w.round()
-	}
-	var all []api.Op
-	for range w.Between(1, 2*len(w.picks)) {
-		all = append(all, w.picks[w.Below(len(w.picks))])
-	}
-	return all
-}
-
-// op draws a step of a machine that stands so.
-func (w *writer) op(s api.Status) api.Op {
-	if !s.Up {
-		w.queue = nil
-		if w.spoil && w.Below(6) == 0 {
-			return api.Op{Kind: api.OpSpoil, A: w.Below(30), B: w.Below(200)}
-		}
-		return api.Op{Kind: api.OpRecover, A: pen.One(w.Pen, 0, 0, 0, w.Below(60), w.Below(4), w.Below(4)), Keep: w.keep()}
-	}
-	for len(w.queue) == 0 {
-		w.queue = w.burst(s)
-	}
-	op := w.queue[0]
-	w.queue = w.queue[1:]
-	// A spoil is drawn only where it is asked for.
-	if op.Kind == api.OpSpoil && !w.spoil {
-		return api.Op{Kind: api.OpPost}
-	}
-	return op
 }
 
 // script draws steps, as the model of a ground answers them.
@@ -160,7 +53,7 @@ func (w *writer) script(t *testing.T, g ground, count int) []api.Op {
 	m := g.model(t)
 	var all []api.Op
 	for range count {
-		op := w.op(m.Status())
+		op := w.Step(m.Status())
 		m.Do(op)
 		all = append(all, op)
 	}
@@ -189,34 +82,7 @@ func (w *writer) disk(t *testing.T, g ground) []api.File {
 		files = m.Files()
 	}
 	for range pen.One(w.Pen, 0, 0, 1, 1, 2) {
-		files = w.harmed(files)
-	}
-	return files
-}
-
-// harmed lets something go wrong with one of the files: it is gone, cut, less sure, or a bit of it is turned; or another one is there.
-func (w *writer) harmed(files []api.File) []api.File {
-	if len(files) == 0 || w.Below(5) == 0 {
-		name := pen.One(w.Pen, "man-9999", "man-9998", "seg-9997-00", "seg-0400-11", "man-0001", "other")
-		if slices.ContainsFunc(files, func(f api.File) bool { return f.Name == name }) {
-			return files
-		}
-		return append(files, api.File{Name: name, Data: []byte("no frame"), Synced: w.Below(9)})
-	}
-	k := w.Below(len(files))
-	f := &files[k]
-	switch w.Below(4) {
-	case 0:
-		return slices.Delete(files, k, k+1)
-	case 1:
-		f.Data = f.Data[:w.Below(len(f.Data)+1)]
-		f.Synced = min(f.Synced, len(f.Data))
-	case 2:
-		f.Synced = w.Below(f.Synced + 1)
-	default:
-		if len(f.Data) > 0 {
-			f.Data[w.Below(len(f.Data))] ^= 1 << w.Below(8)
-		}
+		files = w.Harmed(files)
 	}
 	return files
 }
@@ -236,14 +102,14 @@ func TestDrawnScripts(t *testing.T) {
 	for seed := range 300 {
 		w := seeded(seed)
 		g := w.ground()
-		if w.spoil = seed%4 == 0; seed%3 > 0 {
+		if w.Spoil = seed%4 == 0; seed%3 > 0 {
 			g = g.over(w.disk(t, g)...)
 		}
 		w.at(g)
 		e, m := g.open(t), g.model(t)
 		var past []api.Op
 		for n := range 400 {
-			op := w.op(m.Status())
+			op := w.Step(m.Status())
 			past = append(past, op)
 			got, want := e.Do(op), m.Do(op)
 			why := ""

@@ -225,7 +225,7 @@ func TestEnginesBesideOneAnother(t *testing.T) {
 		}
 		for range 400 {
 			n := w.Below(len(all))
-			op := writers[n].op(models[n].Status())
+			op := writers[n].Step(models[n].Status())
 			if got, want := all[n].Do(op), models[n].Do(op); got != want {
 				t.Fatalf("What holds everywhere, 6: %v: an engine among others: %s answers %d, want %d", g, opTold(op), got, want)
 			}
@@ -323,7 +323,7 @@ func TestPlayKeepsNothing(t *testing.T) {
 		w := seeded(seed)
 		g := w.ground()
 		script := "pick 0 0\ntrigger\nrepeat 60\n"
-		for _, op := range w.at(g).picks {
+		for _, op := range w.at(g).Picks {
 			script += opTold(op) + "\n"
 		}
 		script += "post\nend\ncrash\nrecover 1\n"

@@ -97,7 +97,7 @@ func TestPlayIsTheEngine(t *testing.T) {
 	met := map[string]int{}
 	for seed := range 150 {
 		w := seeded(6000 + seed)
-		w.spoil = seed%5 == 0
+		w.Spoil = seed%5 == 0
 		g := w.ground()
 		script := w.script(t, g, 250)
 		if seed%6 == 1 {

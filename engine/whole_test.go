@@ -18,8 +18,8 @@ func TestWhole(t *testing.T) {
 	for seed := range 180 {
 		for mode := 1; mode <= 3; mode++ {
 			d := seeded(seed)
-			if d.calls = 30; seed%3 == 0 {
-				d.calls = 200
+			if d.Calls = 30; seed%3 == 0 {
+				d.Calls = 200
 			}
 			g := d.ground().in(mode)
 			w := g.watch(g.open(t), met)
@@ -41,7 +41,7 @@ func TestWhole(t *testing.T) {
 func (w *watch) plays(t *testing.T, d *writer, steps int) {
 	t.Helper()
 	for n := range steps {
-		_, why := w.does(d.op(w.e.Status()))
+		_, why := w.does(d.Step(w.e.Status()))
 		if why == "" && n%50 == 49 {
 			why = w.lineFault()
 		}
@@ -107,7 +107,7 @@ func (w *watch) restFault() string {
 func (w *watch) rests(t *testing.T, d *writer) bool {
 	t.Helper()
 	for range 150 {
-		if moved, _ := w.round(t, d.round()); !moved {
+		if moved, _ := w.round(t, d.Round()); !moved {
 			if why := w.restFault(); why != "" {
 				t.Fatalf("P20.4 (a): %v: nothing moves, and %s", w, why)
 			}
@@ -144,7 +144,7 @@ func TestRest(t *testing.T) {
 func (w *watch) readyIn(t *testing.T, d *writer, most int) int {
 	t.Helper()
 	for n := range most {
-		if _, ready := w.round(t, d.round()); ready {
+		if _, ready := w.round(t, d.Round()); ready {
 			return n + 1
 		}
 	}
@@ -157,7 +157,7 @@ func (w *watch) begins(t *testing.T, d *writer, aborts int) {
 	for range aborts {
 		w.step(t, api.Op{Kind: api.OpTrigger})
 		for range d.Below(6) {
-			w.step(t, d.picks[d.Below(len(d.picks))])
+			w.step(t, d.Picks[d.Below(len(d.Picks))])
 		}
 		w.step(t, api.Op{Kind: api.OpAbort})
 	}
@@ -182,7 +182,7 @@ func TestReadyInTimeOvertaking(t *testing.T) {
 		}
 		w.begins(t, d, pen.One(d.Pen, 0, 0, 1, 4))
 		for range d.Below(40) {
-			w.step(t, d.picks[d.Below(len(d.picks))])
+			w.step(t, d.Picks[d.Below(len(d.Picks))])
 		}
 		records := 0
 		for _, l := range w.e.Config().Lanes {
@@ -291,7 +291,7 @@ func TestSame(t *testing.T) {
 			}
 			w.step(t, api.Op{Kind: api.OpTrigger})
 			for w.e.Status().Under != 0 {
-				w.round(t, d.round())
+				w.round(t, d.Round())
 			}
 			if s := w.e.Status(); s.Last != s.Next-1 || !equal.Config(api.Config{Outs: w.e.Committed()}, api.Config{Outs: want.Outs}) {
 				t.Fatalf("P20.6: %v: %s is committed, want %s; the status is %s", w, pen.TellLists(w.e.Committed()), pen.TellLists(want.Outs), statusTold(s))
@@ -337,7 +337,7 @@ func TestChains(t *testing.T) {
 	met, chained := map[string]int{}, 0
 	for seed := range 12 {
 		d := seeded(5000 + seed)
-		d.calls = 60
+		d.Calls = 60
 		var tape []api.Record
 		for n := range 60 {
 			tape = append(tape, api.Record{Key: fmt.Sprint("k", n%25), Val: api.Value{Kind: api.Int, Int: int64(n)}})

@@ -101,7 +101,7 @@ func TestAnySteps(t *testing.T) {
 		w.at(g)
 		e, m := g.open(t), g.model(t)
 		for range 200 {
-			op := w.op(m.Status())
+			op := w.Step(m.Status())
 			if w.Below(3) == 0 {
 				op = api.Op{Kind: pen.One(w.Pen, w.Between(-1, 11), numbers...), A: pen.One(w.Pen, 0, numbers...), B: pen.One(w.Pen, 0, numbers...)}
 				for range w.Below(4) {
@@ -148,7 +148,7 @@ func TestAnyDisk(t *testing.T) {
 		}
 		w.at(g)
 		for range 60 {
-			op := w.op(m.Status())
+			op := w.Step(m.Status())
 			if got, want := e.Do(op), m.Do(op); got != want {
 				t.Fatalf("P20.5: %v: %s answers %d, want %d", g, opTold(op), got, want)
 			}
@@ -211,7 +211,7 @@ func TestShotsMadeByHand(t *testing.T) {
 		m := g.over(files...).model(t)
 		w.at(g)
 		for range 150 {
-			op := w.op(m.Status())
+			op := w.Step(m.Status())
 			if got, want := e.Do(op), m.Do(op); got != want {
 				t.Fatalf("P19.3: %v: over a shot of %s: %s answers %d, want %d", g, pen.TellConfig(c), opTold(op), got, want)
 			}
