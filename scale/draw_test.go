@@ -139,10 +139,10 @@ func (w *writer) shotOf(g ground, c api.Config, id int) (api.Shot, [][]api.Recor
 	return s, committed
 }
 
-// played lets an engine do so many drawn steps.
-func (w *writer) played(g ground, e *engine.Engine, steps int) {
+// played lets an engine do drawn steps: as many as so many fair rounds have.
+func (w *writer) played(g ground, e *engine.Engine, rounds int) {
 	w.At(g.shape())
-	for range steps {
+	for range rounds * (len(w.Picks) + 1) {
 		e.Do(w.Step(e.Status()))
 	}
 }
@@ -160,7 +160,8 @@ func (w *writer) disk(t *testing.T, g ground) []api.File {
 			}
 		}
 		e := from.open(t, w.Between(1, 3), nil)
-		w.played(from, e, w.Below(300))
+		w.Calls = pen.One(w.Pen, 60, 400)
+		w.played(from, e, w.Below(40))
 		files = e.Files()
 	}
 	for range pen.One(w.Pen, 0, 0, 1, 1, 2) {

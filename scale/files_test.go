@@ -404,7 +404,7 @@ func TestAStoreThatIsRefused(t *testing.T) {
 // TestDrawnFiles: drawn disks, whole and harmed, against the model; and P21.12, in all modes.
 func TestDrawnFiles(t *testing.T) {
 	met := map[string]int{}
-	for seed := range 400 {
+	for seed := range 250 {
 		w := seeded(seed)
 		g := w.ground()
 		files := w.disk(t, g)
@@ -423,7 +423,7 @@ func TestDrawnFiles(t *testing.T) {
 // TestShotsMadeByHand: any configuration of a plan may stand in a shot, its lanes holding more than their bound.
 func TestShotsMadeByHand(t *testing.T) {
 	met := map[string]int{}
-	for seed := range 400 {
+	for seed := range 300 {
 		w := seeded(seed)
 		g := w.ground()
 		s, committed := w.shotOf(g, w.config(g), pen.One(w.Pen, 1, 7, 9999))
@@ -447,5 +447,5 @@ func TestShotsMadeByHand(t *testing.T) {
 		_, _, err := g.files(files)
 		met[errorTold(err)]++
 	}
-	wantCases(t, met, 200, "ok")
+	wantCases(t, met, 150, "ok")
 }

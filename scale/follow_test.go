@@ -63,6 +63,26 @@ func TestFollowOfAFullTask(t *testing.T) {
 	}
 }
 
+// TestRoomForTheLastKey: P21.10 holds up to the event that fills the task, and may fail behind it.
+func TestRoomForTheLastKey(t *testing.T) {
+	g := sums().by("k10")
+	c := configOf("0 / 0 / 0 # new=1 | k00=2 | k63=3 | other=4 / #")
+	c.States[1].Cells = cells(63)
+	l := pen.ReadEvents("1.0 2.0")
+	end, _, _ := g.flow().Replay(c, l)
+	if why := followsFault(g, c, l, end); why != "" || len(end.States[1].Cells) != api.MaxCells {
+		t.Errorf("P21.10: with the last key %s", why)
+	}
+	// Behind it keys that are there go on as they did; a new one has room in a copy alone.
+	for events, parts := range map[string]bool{"1.0 1.0 1.0": true, "1.0 1.0 1.0 1.0": true, "1.0 1.0": false} {
+		l = pen.ReadEvents(events)
+		end, _, e := g.flow().Replay(c, l)
+		if why := followsFault(g, c, l, end); e != api.OK || (why != "") != parts {
+			t.Errorf("P21.10: %s: %s", events, why)
+		}
+	}
+}
+
 // TestFollowErrors: the first event that can't happen, at any place of the list.
 func TestFollowErrors(t *testing.T) {
 	g := sums()
