@@ -35,7 +35,7 @@ func filesOf(text string, tapes []string, task string, files []api.File, bounds 
 	return wide, moved, err
 }
 
-// store moves the output logs of a disk, and the newest shot that lies on it, to a disk of the spread plan, and gives its files.
+// store moves the output logs of a disk, and the newest shot that lies on it, to a disk of the spread plan, and gives its files. No refusal but the save's can come here: neither disk has a fault set.
 func (s spread) store(tapes [][]api.Record, old *disk.Disk) ([]api.File, error) {
 	old.Restart(nil)
 	logs, outs, err := s.logs(old)
