@@ -2,6 +2,7 @@ package wire
 
 import (
 	"eddy/api"
+	"eddy/number"
 	"eddy/value"
 )
 
@@ -32,32 +33,15 @@ func (r *reader) take(n int) []byte {
 
 // number reads a number of at most bound.
 func (r *reader) number(bound int) int {
-	var n uint64
-	for k := range maxGroups {
-		group := r.take(1)
-		if len(group) == 0 {
-			return 0
-		}
-		n |= uint64(group[0]&^moreBit) << (groupBits * k)
-		if group[0]&moreBit == 0 {
-			return r.ended(n, bound, k > 0 && group[0] == 0)
-		}
+	n, size, e := number.Lead(r.left, bound)
+	if e != api.OK {
+		r.fail(e)
 	}
-	r.fail(api.ErrWireForm)
-	return 0
-}
-
-// ended gives a number whose last group has been read; idle says that this group isn't needed.
-func (r *reader) ended(n uint64, bound int, idle bool) int {
-	switch {
-	case idle:
-		r.fail(api.ErrWireForm)
-	case n > uint64(bound):
-		r.fail(api.ErrWireBound)
-	default:
-		return int(n)
+	r.take(size)
+	if r.err != api.OK {
+		return 0
 	}
-	return 0
+	return n
 }
 
 func (r *reader) word() uint32 {

@@ -1,11 +1,7 @@
 package wire
 
-// The form of a number, for writing and for reading.
+// The form of a word, for writing and for reading.
 const (
-	groupBits = 7
-	moreBit   = 0x80
-	// maxGroups groups hold every number up to the greatest bound.
-	maxGroups = 5
 	wordBytes = 4
 	byteBits  = 8
 )

@@ -2,17 +2,9 @@ package wire
 
 import (
 	"eddy/api"
+	"eddy/number"
 	"eddy/value"
 )
-
-// appendNumber lays a number from 0 on behind b.
-func appendNumber(b []byte, n int) []byte {
-	for n >= moreBit {
-		b = append(b, byte(n)|moreBit)
-		n >>= groupBits
-	}
-	return append(b, byte(n))
-}
 
 func appendWord(b []byte, w uint32) []byte {
 	for range wordBytes {
@@ -23,7 +15,7 @@ func appendWord(b []byte, w uint32) []byte {
 }
 
 func appendKey(b []byte, key string) []byte {
-	return append(appendNumber(b, len(key)), key...)
+	return append(number.Append(b, len(key)), key...)
 }
 
 func appendValue(b []byte, v api.Value) []byte {
@@ -32,7 +24,7 @@ func appendValue(b []byte, v api.Value) []byte {
 
 // appendList lays a list behind b, each item as put lays it.
 func appendList[T any](b []byte, items []T, put func([]byte, T) []byte) []byte {
-	b = appendNumber(b, len(items))
+	b = number.Append(b, len(items))
 	for _, item := range items {
 		b = put(b, item)
 	}
@@ -42,7 +34,7 @@ func appendList[T any](b []byte, items []T, put func([]byte, T) []byte) []byte {
 func appendRecord(b []byte, r api.Record) []byte {
 	b = appendKey(b, r.Key)
 	b = appendValue(b, r.Val)
-	return appendList(b, r.Loops, appendNumber)
+	return appendList(b, r.Loops, number.Append)
 }
 
 func appendRecords(b []byte, records []api.Record) []byte {
@@ -54,20 +46,20 @@ func appendCell(b []byte, c api.Cell) []byte {
 }
 
 func appendState(b []byte, s api.State) []byte {
-	return appendList(appendNumber(b, s.Num), s.Cells, appendCell)
+	return appendList(number.Append(b, s.Num), s.Cells, appendCell)
 }
 
 func appendDelta(b []byte, d api.Delta) []byte {
-	b = appendNumber(b, d.Num)
+	b = number.Append(b, d.Num)
 	b = appendList(b, d.Set, appendCell)
 	return appendList(b, d.Gone, appendKey)
 }
 
 func appendSegment(b []byte, s api.Segment) []byte {
 	b = append(b, segmentByte)
-	b = appendNumber(b, s.Id)
-	b = appendNumber(b, s.Task)
-	b = appendNumber(b, s.Base)
+	b = number.Append(b, s.Id)
+	b = number.Append(b, s.Task)
+	b = number.Append(b, s.Base)
 	if s.Base == 0 {
 		b = appendState(b, s.State)
 	} else {
@@ -80,17 +72,17 @@ func appendSegment(b []byte, s api.Segment) []byte {
 
 func appendManifest(b []byte, m api.Manifest) []byte {
 	b = append(b, manifestByte)
-	b = appendNumber(b, m.Id)
+	b = number.Append(b, m.Id)
 	b = appendWord(b, m.Sum)
 	return appendList(b, m.Rows, appendFileRow)
 }
 
 func appendFileRow(b []byte, r api.Row) []byte {
-	return appendWord(appendNumber(b, r.Size), r.Check)
+	return appendWord(number.Append(b, r.Size), r.Check)
 }
 
 func appendRow(b []byte, r api.OutRow) []byte {
 	b = append(b, rowByte)
-	b = appendNumber(b, r.At)
+	b = number.Append(b, r.At)
 	return appendRecord(b, r.Rec)
 }
