@@ -89,6 +89,8 @@ func mark[T any](text string, number int) T {
 		*x = number
 	case *byte:
 		*x = byte(number)
+	case *[]byte:
+		*x = []byte(text)
 	case *string:
 		*x = text
 	case *api.Value:
@@ -126,6 +128,8 @@ func flat(thing any) string {
 		return strconv.Itoa(x)
 	case byte:
 		return strconv.Itoa(int(x))
+	case []byte:
+		return listOf[byte](x[:len(x):len(x)]).told()
 	case string:
 		return strconv.Quote(x)
 	case api.Value:

@@ -58,6 +58,8 @@ func asList(thing any) list {
 		return listOf[int](x)
 	case []byte:
 		return listOf[byte](x)
+	case [][]byte:
+		return listOf[[]byte](x)
 	case []string:
 		return listOf[string](x)
 	case []api.Value:

@@ -29,7 +29,7 @@ func samples() []any {
 		return api.Part{State: state(key), Logs: [][]api.Record{{record(key)}, {record("b"), record("c")}}, Pend: []api.Record{record("d")}}
 	}
 	task := api.Task{Name: "m", Kind: api.Map, Num: 2, Exprs: []string{"key", "val"}}
-	return []any{5, "text", value("v"), record("r"), state("s"), part("p"), state("s").Cells, state("s").Cells[0], task,
+	return []any{5, "text", []byte{1, 2}, [][]byte{{3}, {4, 5}}, value("v"), record("r"), state("s"), part("p"), state("s").Cells, state("s").Cells[0], task,
 		api.Event{Task: 1, Port: 2}, []api.Event{{Task: 1, Port: 2}, {}}, api.Edge{From: 1, Out: 2, To: 3, In: 4},
 		api.Trail{Kind: 1, Task: 2, Port: 3, Id: 4}, []api.Trail{{Kind: 1, Task: 2, Port: 3, Id: 4}, {}},
 		api.Shot{Id: 3, Sum: 4, Parts: []api.Part{part("x"), part("y")}},
@@ -56,7 +56,8 @@ func lists(v reflect.Value) (all []reflect.Value, texts int) {
 		for k := range v.Len() {
 			inner(v.Index(k))
 		}
-		all = append(all, v)
+		// What is laid into v's place later on is another list.
+		all = append(all, reflect.ValueOf(v.Interface()))
 	case reflect.String:
 		texts++
 	}
