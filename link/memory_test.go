@@ -215,6 +215,27 @@ func TestNothingMoreIsKept(t *testing.T) {
 	want(t, "P22.12", bodies(r.Answer()), bodies(answer(0, many+1, 0)))
 }
 
+// TestLongLists: of many messages that waited, and were answered or given but for the last ones, the last ones alone are kept.
+func TestLongLists(t *testing.T) {
+	const many = 3000
+	message := strings.Repeat("x", 4096)
+	before := inUse()
+	s, r := newSender(0, 1), newReceiver(0, 1)
+	for n := 1; n <= many; n++ {
+		s.Put([]byte(message))
+		r.Take(data(0, n, message))
+	}
+	for range many - 1 {
+		r.Next()
+	}
+	want(t, "P22.6: all but one are answered", s.Ack(answer(0, many, 0)), api.OK)
+	if more := inUse() - before; more > 4096*many/10 {
+		t.Errorf("what is kept of %d messages has %d bytes", many, more)
+	}
+	want(t, "P22.5: the last one", bodies(s.Tick()...), bodies(data(0, many, message)))
+	want(t, "P22.10: the last one", strings.Join(drain(r), ","), message)
+}
+
 // TestAtTheSameTime: ends beside one another that are called at the same time, with the same bytes in hand.
 func TestAtTheSameTime(t *testing.T) {
 	d := &drawer{Pen: pen.Seeded(1), lane: 3}
