@@ -34,6 +34,8 @@ func (m *Memory) add(things ...any) {
 			m.add(x.Tasks, x.Edges)
 		case api.File:
 			m.add(x.Name, x.Data)
+		case api.Flight:
+			m.add(x.Data)
 		case api.Op:
 			m.add(x.Keep)
 		default:
@@ -74,6 +76,9 @@ func roomy(thing any, lend func(string) string) any {
 		return api.Plan{Cap: x.Cap, Tasks: Roomy(x.Tasks, lend), Edges: Roomy(x.Edges, lend)}
 	case api.File:
 		return api.File{Name: lend(x.Name), Data: Roomy(x.Data, lend), Synced: x.Synced}
+	case api.Flight:
+		x.Data = Roomy(x.Data, lend)
+		return x
 	case api.Op:
 		x.Keep = Roomy(x.Keep, lend)
 		return x
@@ -115,6 +120,8 @@ func mark[T any](text string, number int) T {
 		*x = api.Trail{Kind: number, Task: number, Port: number, Id: number}
 	case *api.File:
 		*x = api.File{Name: text, Synced: number}
+	case *api.Flight:
+		*x = api.Flight{From: number, To: number}
 	case *api.Op:
 		*x = api.Op{Kind: number, A: number, B: number}
 	}
@@ -154,6 +161,8 @@ func flat(thing any) string {
 		return words(flat(x.Kind), flat(x.Task), flat(x.Port), flat(x.Id))
 	case api.File:
 		return words(flat(x.Name), flat(len(x.Data)), flat(x.Synced))
+	case api.Flight:
+		return words(flat(x.From), flat(x.To), flat(len(x.Data)))
 	case api.Op:
 		return words(flat(x.Kind), flat(x.A), flat(x.B), flat(len(x.Keep)))
 	}

@@ -84,6 +84,8 @@ func asList(thing any) list {
 		return listOf[api.Trail](x)
 	case []api.File:
 		return listOf[api.File](x)
+	case []api.Flight:
+		return listOf[api.Flight](x)
 	case []api.Op:
 		return listOf[api.Op](x)
 	}

@@ -36,6 +36,7 @@ func samples() []any {
 		api.Config{States: []api.State{state("s")}, Lanes: [][]api.Record{{record("l")}}, Outs: [][]api.Record{{record("o")}}},
 		api.Plan{Cap: 2, Tasks: []api.Task{task}, Edges: []api.Edge{{From: 1, Out: 2, To: 3, In: 4}, {}}},
 		api.File{Name: "f", Data: []byte{1, 2}, Synced: 1}, []api.File{{Name: "f", Data: []byte{0, 255}, Synced: 2}, {Name: "g", Data: []byte{7}}},
+		api.Flight{From: 1, To: 2, Data: []byte{3}}, []api.Flight{{From: 1, To: 2, Data: []byte{3, 0}}, {From: 2, To: 1, Data: []byte{4}}},
 		api.Op{Kind: 9, A: 1, B: 2, Keep: []int{3, -1}}, []api.Op{{Kind: 9, Keep: []int{3}}, {Kind: 1, A: 4, B: 5, Keep: []int{0}}}}
 }
 
