@@ -1,4 +1,4 @@
-package runner
+package crew
 
 import (
 	"eddy/api"

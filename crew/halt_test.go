@@ -1,4 +1,4 @@
-package runner
+package crew
 
 import (
 	"reflect"
@@ -9,9 +9,27 @@ import (
 	"eddy/flow"
 )
 
-// begun makes a runner in the middle of which a test can write: no test can hand in an output of MaxNum records.
-func begun(t *testing.T, mode int, kinds ...api.Task) *Runner {
+// made makes a crew of a plan, with lanes as one makes them.
+func made(t *testing.T, p api.Plan, mode int, maker Maker) *Crew {
 	t.Helper()
+	tapes := [][]api.Record{{{Key: "x"}, {Key: "y"}, {Key: "z"}}}
+	f, e := flow.New(p, tapes)
+	if e != api.OK {
+		t.Fatalf("P9.1: error %d", e)
+	}
+	o := Orders{Plan: p, Tapes: tapes, Mode: mode, Start: f.Start(), Next: 1, Sum: 7}
+	if e := o.Refusal(); e != api.OK {
+		t.Fatalf("P16.1: error %d", e)
+	}
+	c, e := New(o, maker)
+	if e != api.OK {
+		t.Fatalf("P16.2: error %d", e)
+	}
+	return c
+}
+
+// chain is a plan of tasks one behind the other.
+func chain(kinds ...api.Task) api.Plan {
 	p := api.Plan{Cap: 1}
 	for task, k := range kinds {
 		k.Name = string(rune('a' + task))
@@ -20,20 +38,17 @@ func begun(t *testing.T, mode int, kinds ...api.Task) *Runner {
 			p.Edges = append(p.Edges, api.Edge{From: task - 1, To: task})
 		}
 	}
-	tapes := [][]api.Record{{{Key: "x"}, {Key: "y"}, {Key: "z"}}}
-	f, e := flow.New(p, tapes)
-	if e != api.OK {
-		t.Fatalf("P9.1: error %d", e)
-	}
-	r, e := New(p, tapes, mode, f.Start(), 1, 7)
-	if e != api.OK {
-		t.Fatalf("P16.1: error %d", e)
-	}
-	return r
+	return p
+}
+
+// begun makes a crew in the middle of which a test can write: no test can hand in an output of MaxNum records.
+func begun(t *testing.T, mode int, kinds ...api.Task) *Crew {
+	t.Helper()
+	return made(t, chain(kinds...), mode, Local)
 }
 
 // halts fails the test where a pick doesn't halt, or changes something.
-func halts(t *testing.T, r *Runner, task, port int) {
+func halts(t *testing.T, r *Crew, task, port int) {
 	t.Helper()
 	config, trail := r.Config(), r.Trail()
 	id, tasks := r.Under()
@@ -104,12 +119,7 @@ func TestAnErrorAheadOfAFullLane(t *testing.T) {
 func TestAHaltWritesNothingIntoALog(t *testing.T) {
 	p := api.Plan{Cap: 2, Tasks: []api.Task{{Name: "a", Kind: api.Source}, {Name: "b", Kind: api.Source}, {Name: "u", Kind: api.Union}, {Name: "k", Kind: api.Sink}},
 		Edges: []api.Edge{{From: 0, To: 2}, {From: 1, To: 2, In: 1}, {From: 2, To: 3}}}
-	tapes := [][]api.Record{{{Key: "x"}, {Key: "y"}}}
-	f, _ := flow.New(p, tapes)
-	r, e := New(p, tapes, api.Recorded, f.Start(), 1, 7)
-	if e != api.OK {
-		t.Fatalf("P16.1: error %d", e)
-	}
+	r := made(t, p, api.Recorded, Local)
 	r.Pick(1, 0)
 	r.Trigger()
 	r.Pick(0, 0)
@@ -125,7 +135,7 @@ func TestAHaltWritesNothingIntoALog(t *testing.T) {
 	for range 3 {
 		r.Post()
 	}
-	if s, did := r.Post(); did != api.DidReady || !equal.Records(s.Parts[2].Logs[1], tapes[0][:1]) {
+	if s, did := r.Post(); did != api.DidReady || !equal.Records(s.Parts[2].Logs[1], []api.Record{{Key: "x"}}) {
 		t.Errorf("P16.5: the log of a port at which a pick halted is in the shot %v (%d)", s, did)
 	}
 }

@@ -1,10 +1,10 @@
-package runner
+package crew
 
 import "eddy/api"
 
 // A pick is a task that looks at one of its in ports.
 type pick struct {
-	*Runner
+	*Crew
 	*task // nil: there is no such task
 	port  int
 	item  api.Item     // what is taken there
@@ -81,10 +81,10 @@ func (p *pick) mark() int {
 // work lets the task take the record that stands first.
 func (p *pick) work() int {
 	state, sends, e := p.stage.Step(p.state, p.port, p.item.Rec)
-	if e != api.OK {
+	switch {
+	case e != api.OK || p.spent(sends):
 		return api.DidHalt
-	}
-	if !p.room(sends) {
+	case !p.room(sends):
 		return api.DidBlock
 	}
 	p.ins[p.port].Take()

@@ -1,4 +1,4 @@
-package runner
+package crew
 
 import (
 	"eddy/api"
@@ -14,11 +14,21 @@ type worker struct {
 	stage  *stage.Stage
 	book   *cut.Book
 	ins    []feed
-	outs   []*lane.Lane
+	outs   []Lane
 }
 
 // has tells whether there is such an in port.
 func (w *worker) has(port int) bool { return port >= 0 && port < len(w.ins) }
+
+// spent tells whether something is to be sent over an edge that takes no record any more.
+func (w *worker) spent(sends []api.Send) bool {
+	for _, s := range sends {
+		if w.outs[s.Out].Spent() {
+			return true
+		}
+	}
+	return false
+}
 
 // room tells whether there is room for all that is to be sent.
 func (w *worker) room(sends []api.Send) bool {
@@ -32,14 +42,14 @@ func (w *worker) room(sends []api.Send) bool {
 
 func (w *worker) send(sends []api.Send) {
 	for _, s := range sends {
-		w.outs[s.Out].Put(api.Item{Rec: s.Rec})
+		w.outs[s.Out].Lay(api.Item{Rec: s.Rec})
 	}
 }
 
 // pass lays a marker at the end of all lanes that begin here.
 func (w *worker) pass(id int) {
 	for _, l := range w.outs {
-		l.Put(api.Item{Mark: id})
+		l.Lay(api.Item{Mark: id})
 	}
 }
 
